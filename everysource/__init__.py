@@ -1,0 +1,1 @@
+"""Everysource: programs that tell something of a source nobody knows."""

@@ -1,0 +1,257 @@
+"""Slow reckoning straight from the words of the document, and drawn things to try it on.
+
+Nothing here uses the package, so that both can be held against each other.
+"""
+
+import random
+from fractions import Fraction
+from itertools import permutations, product
+
+
+def exact(x):
+    return Fraction(x[0], x[1])
+
+
+def pair(x):
+    x = Fraction(x)
+    return (x.numerator, x.denominator)
+
+
+def lists(value):
+    """The same value with a list for each tuple."""
+    return [lists(part) for part in value] if isinstance(value, (list, tuple)) else value
+
+
+def only_tuples(value):
+    """Whether value is a number, a string, None, True, False, or a tuple of such things."""
+    if isinstance(value, tuple):
+        return all(only_tuples(part) for part in value)
+    return value is None or isinstance(value, (int, str))
+
+
+def monomial(row, own):
+    out = Fraction(1)
+    for x, k in zip(row, own):
+        out *= exact(x) ** k
+    return out
+
+
+def value(form, rows):
+    out = Fraction(0)
+    for powers, x in form:
+        term = exact(x)
+        for row, own in zip(rows, powers):
+            term *= monomial(row, own)
+        out += term
+    return out
+
+
+def from_sums(sums):
+    return tuple((key, pair(sums[key])) for key in sorted(sums) if sums[key] != 0)
+
+
+def added(pairs):
+    sums = {}
+    for key, x in pairs:
+        sums[key] = sums.get(key, Fraction(0)) + x
+    return sums
+
+
+def renamed(form, order):
+    out = {}
+    for powers, x in form:
+        moved = [None] * len(order)
+        for i, own in enumerate(powers):
+            moved[order[i]] = own
+        out[tuple(moved)] = exact(x)
+    return from_sums(out)
+
+
+def renamed_tells(tells, order):
+    return tuple(renamed(form, order) for form in tells)
+
+
+def orders(n):
+    return sorted(permutations(range(n)))
+
+
+def evened(form, n):
+    pairs = [(powers, exact(x)) for order in orders(n) for powers, x in renamed(form, order)]
+    return from_sums({key: x / len(orders(n)) for key, x in added(pairs).items()})
+
+
+def orbit(tells, n):
+    return tuple(sorted(set(renamed_tells(tells, order) for order in orders(n))))
+
+
+def hung(tells):
+    return tuple(sorted({i for form in tells for powers, _ in form for i, own in enumerate(powers) if any(own)}))
+
+
+def drawings(source, n):
+    out = []
+    for drawn in product(source, repeat=n):
+        chance = Fraction(1)
+        for _, x in drawn:
+            chance *= exact(x)
+        out.append((tuple(row for row, _ in drawn), chance))
+    return out
+
+
+def told(teller, source, n):
+    """The dict of what is told, FRACTIONS as pairs, with its chance as a Fraction."""
+    pairs = []
+    for rows, chance in drawings(source, n):
+        for tells, weight in teller:
+            pairs.append((tuple(pair(value(form, rows)) for form in tells), exact(weight) * chance))
+    return added(pairs)
+
+
+def mean(form, source, n):
+    return sum((chance * value(form, rows) for rows, chance in drawings(source, n)), Fraction(0))
+
+
+def independent(table, lot, others):
+    """Whether, in a dict of what is told, two lots of places are so, by the whole table."""
+    both = added([((tuple(t[k] for k in lot), tuple(t[k] for k in others)), x) for t, x in table.items()])
+    owns = added([(tuple(t[k] for k in lot), x) for t, x in table.items()])
+    mores = added([(tuple(t[k] for k in others), x) for t, x in table.items()])
+    return all(both.get((own, more), 0) == x * y for own, x in owns.items() for more, y in mores.items())
+
+
+def wish_value(wish, source):
+    out = Fraction(0)
+    for factors, x in wish:
+        term = exact(x)
+        for moment in factors:
+            term *= sum(exact(chance) * monomial(row, moment) for row, chance in source)
+        out += term
+    return out
+
+
+class Drawn:
+    """Drawn things, always the same ones for one seed."""
+
+    def __init__(self, seed):
+        self.random = random.Random(seed)
+
+    def number(self, low, high):
+        return self.random.randint(low, high)
+
+    def choice(self, options):
+        return self.random.choice(options)
+
+    def fraction(self, most=3):
+        return pair(Fraction(self.number(-most, most), self.number(1, most)))
+
+    def fraction_not_0(self, most=3):
+        return pair(Fraction(self.choice([-1, 1]) * self.number(1, most), self.number(1, most)))
+
+    def shares(self, many):
+        parts = [self.number(1, 4) for _ in range(many)]
+        return [pair(Fraction(part, sum(parts))) for part in parts]
+
+    def powers(self, n, c, high=2):
+        return tuple(tuple(self.choice([0, 0, self.number(0, high)]) for _ in range(c)) for _ in range(n))
+
+    def form(self, n, c, pairs=3, high=2):
+        return from_sums(added([
+            (self.powers(n, c, high), exact(self.fraction_not_0())) for _ in range(self.number(0, pairs))]))
+
+    def tells(self, n, c, t, pairs=3):
+        return tuple(self.form(n, c, pairs) for _ in range(t))
+
+    def teller(self, n, c, t, most=3, pairs=3):
+        shares = self.shares(self.number(1, most))
+        return from_sums(added([(self.tells(n, c, t, pairs), exact(share)) for share in shares]))
+
+    def row(self, c, most=3):
+        return tuple(self.fraction(most) for _ in range(c))
+
+    def source(self, c, most=3, high=3):
+        shares = self.shares(self.number(1, most))
+        return ranked(added([(self.row(c, high), exact(share)) for share in shares]))
+
+    def order(self, n):
+        return tuple(self.random.sample(range(n), n))
+
+    def moment(self, c, high=3):
+        while True:
+            own = tuple(self.number(0, high) for _ in range(c))
+            if any(own):
+                return own
+
+    def wish(self, c, pairs=3, factors=2):
+        return from_sums(added([
+            (tuple(sorted(self.moment(c) for _ in range(self.number(0, factors)))), exact(self.fraction_not_0()))
+            for _ in range(self.number(0, pairs))]))
+
+
+def ranked(sums):
+    """A SOURCE of the ROWS with these chances, in order by quotients."""
+    return tuple((row, pair(sums[row])) for row in sorted(sums, key=lambda row: [exact(x) for x in row]))
+
+
+def shuffled_law(drawn, teller, n):
+    """A TELLER with each of its tells renamed, some of them parted into several names of theirs."""
+    pairs = []
+    for tells, weight in teller:
+        many = drawn.number(1, 2)
+        for share in drawn.shares(many):
+            pairs.append((renamed_tells(tells, drawn.order(n)), exact(weight) * exact(share)))
+    return from_sums(added(pairs))
+
+
+def places_in(thing, path=()):
+    """All paths to parts of a nested tuple, () for the whole."""
+    out = [path]
+    if isinstance(thing, tuple):
+        for k, part in enumerate(thing):
+            out.extend(places_in(part, path + (k,)))
+    return out
+
+
+def part_at(thing, path):
+    for k in path:
+        thing = thing[k]
+    return thing
+
+
+def with_part(thing, path, part):
+    if not path:
+        return part
+    k = path[0]
+    return thing[:k] + (with_part(thing[k], path[1:], part),) + thing[k + 1:]
+
+
+def deep(levels, kind=tuple):
+    out = kind()
+    for _ in range(levels):
+        out = kind([out])
+    return out
+
+
+def spoiled(thing):
+    """Things that are like thing in all but one place, where something stands that is right nowhere."""
+    out = []
+    for path in places_in(thing):
+        part = part_at(thing, path)
+        for other in (None, True, False, "", "x", "0", (None,), [], [1], deep(60), deep(60, list), (1, 2, 3, "x")):
+            out.append(with_part(thing, path, other))
+        if isinstance(part, tuple):
+            out.append(with_part(thing, path, list(part)))
+            out.append(with_part(thing, path, lists(part)))
+            out.append(with_part(thing, path, part + (None,)))
+            out.append(with_part(thing, path, part + (True,)))
+            out.append(with_part(thing, path, (part, None)))
+        else:
+            out.append(with_part(thing, path, (part,)))
+            out.append(with_part(thing, path, str(part)))
+    return out
+
+
+STRANGE = (
+    None, True, False, 0, 1, -1, "", "x", "((", [], [[]], [()], ((),), (((),),), (None,), (0,), (True,), ("",),
+    ((), ()), ((), None), (((), (1, 1)), None), ((1, 1),), (((), (1, 1), ()),), deep(99), deep(99, list),
+    (1, 2, 3), ((1, 2), (3, 4)), (((0,), 1), None), 10 ** 40, (10 ** 40,), "x" * 1000,
+)

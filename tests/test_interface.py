@@ -1,0 +1,75 @@
+import ast
+import importlib
+import inspect
+import os
+import unittest
+
+FOLDER = os.path.join(os.path.dirname(os.path.dirname(os.path.abspath(__file__))), "everysource")
+
+INTERFACE = {
+    "errors": "NoPlace(place), NothingDone(), BadLine(line), CanNot(), TooMuch(), Unfit()",
+    "forms": "is_form(thing, n, c), sample_form(n, c, sample, column), number_form(n, c, x), form_at(form, rows), "
+             "plus_forms(form, other), times_forms(form, other), scaled_form(form, x), form_degree(form), "
+             "samples_of(form), columns_of(form, sample), renamed_form(form, order), is_even(form), evened(form), "
+             "wider_form(form, n, c), pressed_form(form), fits(form, kinds), is_kinds(thing, c), "
+             "kind_samples(kinds)",
+    "sources": "is_source(thing, c), source_of(pairs), even_source(rows), chance_of(source, row), "
+               "moment_at(source, moment), mixed_source(source, other, share), shown_source(source, columns), "
+               "unlinked_source(source), moved_source(source, column, x, y)",
+    "drawings": "is_law(thing, n, c), drawings(source, n), told_chances(teller, source, n), "
+                "chance_told(teller, source, n, numbers), form_mean(form, source, n), form_spread(form, source, n), "
+                "forms_together(form, other, source, n), law_means(teller, source, n), "
+                "law_spreads(teller, source, n), are_apart_at(teller, source, n, lot, others)",
+    "orbits": "all_orders(n), one_then(order, later), back(order), renamed_tells(tells, order), orbit(tells), "
+              "least_name(tells), keepers(tells, n), alike_samples(tells, n), renaming(tells, other, n), "
+              "is_renaming(tells, other, n, thing), hung_on(tells), filled(tells, n, c), packed(tells), "
+              "orbit_weights(teller), even_law(teller)",
+    "chances": "chance_gap(teller, other, source, told), same_chances(teller, other), parting(teller, other), "
+               "is_parting(teller, other, thing), fewest_samples(teller), narrow_law(teller), "
+               "alone(teller, places), mixed(teller, other, share), fitting_names(tells, kinds, c), "
+               "law_fits(teller, kinds), shown_law(teller, kinds, c)",
+    "apart": "are_apart(teller, lot, others), drawn_anew(teller, lot, others), apart_lots(teller), "
+             "bond(teller, lot, others), is_bond(teller, lot, others, thing), signed_count(teller, pairs, numbers), "
+             "samples_paper(teller), is_samples_paper(teller, thing)",
+    "wishes": "is_moment(thing, c), is_wish(thing, c), made_wish(pairs), wish_value(wish, source), "
+              "wish_degree(wish), wish_moments(wish), wish_columns(wish), wish_plus(one, other), "
+              "wish_less(one, other), wish_times(one, other), wish_scaled(wish, x), wish_renamed(wish, order), "
+              "joined_moment(moment, other), joint_spread(moment, other), central(moment, many), "
+              "cumulant(moment, many), wish_of(form), law_wish(teller, place), is_right(teller, wish)",
+}
+
+
+def entries(text):
+    """Pairs (name, list of arguments) of a line of the interface."""
+    calls = ast.parse("[" + text + "]", mode="eval").body.elts
+    return [(call.func.id, [own.id for own in call.args]) for call in calls]
+
+
+class InterfaceTest(unittest.TestCase):
+
+    def test_names_and_arguments(self):
+        for file, text in INTERFACE.items():
+            module = importlib.import_module("everysource." + file)
+            for name, arguments in entries(text):
+                if not arguments:
+                    # Python shows no signature of an error class without a constructor of its own.
+                    getattr(module, name)()
+                    continue
+                with self.subTest(file=file, name=name):
+                    parameters = inspect.signature(getattr(module, name)).parameters
+                    self.assertEqual(list(parameters), arguments)
+                    for parameter in parameters.values():
+                        self.assertEqual(parameter.kind, parameter.POSITIONAL_OR_KEYWORD)
+                        self.assertIs(parameter.default, parameter.empty)
+
+    def test_defined_where_it_is_listed(self):
+        for file, text in INTERFACE.items():
+            with open(os.path.join(FOLDER, file + ".py"), encoding="utf-8") as rows:
+                tree = ast.parse(rows.read())
+            defined = [row.name for row in tree.body if isinstance(row, (ast.FunctionDef, ast.ClassDef))]
+            for name, _ in entries(text):
+                self.assertEqual(defined.count(name), 1, name)
+
+
+if __name__ == "__main__":
+    unittest.main()
