@@ -2,14 +2,14 @@
 
 from itertools import combinations
 
-from everysource.chances import alone, fewest_samples, same_chances, sizes, MOST_ROWS
+from everysource.chances import MOST_ROWS, alone, fewest_samples, is_source_for, same_chances, sizes
 from everysource.drawings import check_places
 from everysource.errors import TooMuch, Unfit
 from everysource.freerows import free_chances, free_rows
 from everysource.orbits import all_orders
 from everysource.polys import hung, placed, pressed_all, value_at
 from everysource.quotients import ZERO, plus, summed, times
-from everysource.sources import even_source, is_source, source_of
+from everysource.sources import even_source, source_of
 from everysource.tables import chance_table, count_told, linked_pair, parts_table
 from everysource.things import are_fractions, as_tuples, is_tuple_of
 
@@ -85,7 +85,7 @@ def bond(teller, lot, others):
     if are_apart(teller, lot, others):
         return None
     teller = as_tuples(teller)
-    lot, others, c = as_tuples(lot), as_tuples(others), sizes(teller)[1]
+    lot, others, c = as_tuples(lot), as_tuples(others), max(sizes(teller)[1], 1)
     joint = alone(teller, lot + others)
     for many in range(1, MOST_ROWS + 1):
         for source in (even_source(free_rows(many, c, 1)), free_source(many, c, 1)):
@@ -122,7 +122,7 @@ def is_bond(teller, lot, others, thing):
     if not is_tuple_of(thing, 3):
         return False
     source, numbers, more = thing
-    if not is_source(source, sizes(teller)[1]) or len(source) > MOST_ROWS:
+    if not is_source_for(source, sizes(teller)[1]) or len(source) > MOST_ROWS:
         return False
     if not are_fractions(numbers, len(lot)) or not are_fractions(more, len(others)):
         return False

@@ -78,9 +78,14 @@ def is_parting(teller, other, thing):
     teller, other = as_tuples(teller), as_tuples(other)
     source, told = thing
     n, c = joint_sizes(teller, other)
-    if not is_source(source, c if c > 0 else columns_in(source)) or len(source) > max(n, MOST_ROWS):
+    if not is_source_for(source, c) or len(source) > max(n, MOST_ROWS):
         return False
     return are_fractions(told, len(teller[0][0])) and chance_gap(teller, other, source, told) != ZERO
+
+
+def is_source_for(thing, c):
+    """Whether thing is a SOURCE for c columns, for any columns if c is 0: if FORMS do not show them."""
+    return is_source(thing, c if c > 0 else columns_in(thing))
 
 
 def columns_in(thing):

@@ -5,7 +5,7 @@ powers the greatest one outweighs all others: for finitely many polynomials that
 is a power from which on none of them comes to 0. So who tries power by power comes to an end.
 """
 
-from everysource.quotients import lowest, total, whole_power
+from everysource.quotients import lowest, whole_power
 
 
 def primes(many):
