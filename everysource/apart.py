@@ -40,7 +40,7 @@ def drawn_anew(teller, lot, others):
     check_places(teller, lot, others)
     c = sizes(teller)[1]
     owns, mores = packed_part(teller, lot), packed_part(teller, others)
-    n = max([many for _, many, _ in owns]) + max([many for _, many, _ in mores])
+    n = max([count for _, count, _ in owns]) + max([count for _, count, _ in mores])
     pairs = []
     for own, many, weight in owns:
         for more, far, share in mores:

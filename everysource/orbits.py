@@ -89,15 +89,20 @@ def keepers(tells, n):
 
 def renaming_orders(tells, other, orders):
     """The list of those of the orders by which tells are renamed to other."""
-    if [len(form) for form in tells] != [len(form) for form in other]:
-        return []
-    tables = [{powers: x for powers, x in form} for form in other]
+    tables = tables_of(other)
     return [order for order in orders if comes_to(tells, tables, origin_of(order))]
 
 
+def tables_of(tells):
+    """For each FORM the dict of its FRACTIONS by their powers."""
+    return [{powers: x for powers, x in form} for form in tells]
+
+
 def comes_to(tells, tables, origin):
-    """Whether each pair of the tells, with the powers of origin[i] at i, stands in the tables."""
+    """Whether the tells, with the powers of origin[i] at i, have just the pairs of the tables."""
     for form, table in zip(tells, tables):
+        if len(form) != len(table):
+            return False
         for powers, x in form:
             if table.get(tuple([powers[i] for i in origin])) != x:
                 return False
@@ -127,9 +132,9 @@ def keeps_exchange(tells, n, one, other):
 
 
 def renaming(tells, other, n):
-    tells, other = as_tuples(tells), as_tuples(other)
+    tells, tables = as_tuples(tells), tables_of(as_tuples(other))
     for order in all_orders(n):
-        if renaming_orders(tells, other, [order]):
+        if comes_to(tells, tables, origin_of(order)):
             return order
     return None
 

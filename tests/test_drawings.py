@@ -62,6 +62,11 @@ class IsLawTest(unittest.TestCase):
             self.assertIs(is_law(teller, 2, 1), right, teller)
         self.assertFalse(is_law((((a,), UNIT),), 3, 1))
         self.assertFalse(is_law((((a,), UNIT),), 2, 2))
+        # FORMS stand in the order of the tuples as they are, not of the quotients in them.
+        for low, high in (((1, 1), (1, 2)), ((-1, 2), (-1, 3)), ((-2, 1), (-1, 1)), ((2, 3), (3, 5))):
+            one, other = ((number_form(2, 1, x),) for x in (low, high))
+            self.assertTrue(is_law(((one, HALF), (other, HALF)), 2, 1))
+            self.assertFalse(is_law(((other, HALF), (one, HALF)), 2, 1))
 
     def test_beyond_the_bounds(self):
         many = 60
@@ -99,6 +104,14 @@ class TooMuchTest(unittest.TestCase):
         for rows, n in ((20, 3), (89, 2), (100, 1), (100, 0), (2, 12), (1, 7), (1, 30)):
             for function, args in self.calls(whole_numbers(rows), n):
                 self.assertEqual(outcome(function, args, {})[0], "value", (function.__name__, rows, n))
+
+    def test_one_more_than_8000(self):
+        own = sample_form(1, 1, 0, 0)
+        self.assertEqual(len(drawings(whole_numbers(8000), 1)), 8000)
+        self.assertEqual(form_mean(own, whole_numbers(8000), 1), (7999, 2))
+        for function, args in self.calls(whole_numbers(8001), 1):
+            with self.assertRaises(TooMuch):
+                function(*args)
 
     def test_ahead_of_all_else(self):
         source, a = whole_numbers(21), sample_form(3, 1, 0, 0)
