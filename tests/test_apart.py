@@ -173,6 +173,13 @@ class ApartTest(unittest.TestCase):
                     self.assertEqual(chance, x)
         self.assertTrue({(1, 1), (2, 1), (2, 2), (3, 1), (3, 2), (3, 3), (4, 1), (4, 4)} <= sizes, sizes)
 
+    def test_order_of_lots(self):
+        a, b, d = (sample_form(3, 1, k, 0) for k in range(3))
+        for tells, lots in (
+                ((a, b, b, d), [(0,), (1, 2), (3,)]), ((a, b, d, a), [(0, 3), (1,), (2,)]),
+                ((a, b, a, b), [(0, 2), (1, 3)]), ((b, a, (), plus_forms(a, d)), [(0,), (1, 3), (2,)])):
+            self.assertEqual(apart_lots(((tells, UNIT),)), lots)
+
     def test_pairs_apart_but_not_all(self):
         # Of three signs each two are apart, but the third is the product of the others.
         signs = [(1, 1), (-1, 1)]
