@@ -3,9 +3,10 @@
 import importlib
 import unittest
 
-FILES = ("errors", "forms", "sources", "drawings", "orbits", "chances", "apart", "wishes")
+from test_interface import INTERFACE, entries
 
 EXAMPLES = r"""
+    # forms
     >>> unit, half = (1, 1), (1, 2)
     >>> a, b = sample_form(2, 1, 0, 0), sample_form(2, 1, 1, 0)
     >>> apart = plus_forms(a, scaled_form(b, (-1, 1)))
@@ -23,6 +24,7 @@ EXAMPLES = r"""
     (((0,), (0, 1), (0, 1)), False, True)
     >>> renamed_form(a, (0, 0))
     raises Unfit()
+    # sources
     >>> zero = (0, 1)
     >>> coin = even_source(((zero,), (unit,)))
     >>> coin, moment_at(coin, (3,)), chance_of(coin, ((2, 1),)), is_source((((unit,), half), ((zero,), half)), 1)
@@ -37,6 +39,7 @@ EXAMPLES = r"""
     ((((-1, 1),), (1, 2)), (((1, 1),), (1, 2)))
     >>> mixed_source(coin, bent, (3, 2))
     raises Unfit()
+    # drawings
     >>> lone = (((spread,), unit),)
     >>> told_chances(lone, coin, 2), form_mean(spread, coin, 2), form_spread(spread, coin, 2)
     (((((0, 1),), (1, 2)), (((1, 2),), (1, 2))), (1, 4), (1, 16))
@@ -50,6 +53,7 @@ EXAMPLES = r"""
     ((0, 1), False, True)
     >>> are_apart_at(lone, coin, 2, (0,), (1,))
     raises NoPlace(place=1)
+    # orbits
     >>> orbit((a,)) == ((b,), (a,)), least_name((a,)) == (b,), len(orbit((apart,))), least_name((apart,)) == (apart,)
     (True, True, 2, True)
     >>> product = times_forms(a, b)
@@ -64,6 +68,7 @@ EXAMPLES = r"""
     >>> solo, toss = (((a,), unit),), (((b,), half), ((a,), half))
     >>> orbit_weights(toss) == (((b,), unit),), even_law(solo) == toss
     (True, True)
+    # chances
     >>> middle = (((scaled_form(plus_forms(a, b), half),), unit),)
     >>> same_chances(solo, toss), same_chances(solo, middle), chance_gap(solo, middle, coin, (half,)), is_parting(solo, middle, (coin, (half,)))
     (True, False, (-1, 2), True)
@@ -80,6 +85,7 @@ EXAMPLES = r"""
     (True, False)
     >>> shown_law((((times_forms(sample_form(2, 2, 0, 1), sample_form(2, 2, 1, 1)),), unit),), shown, 2)
     raises CanNot()
+    # apart
     >>> are_apart(both, (0,), (1,)), are_apart(duo, (0,), (1,)), are_apart(twin, (0,), (1,))
     (False, True, False)
     >>> turned, copied = (((b, a), half), ((a, b), half)), (((b, b), half), ((a, a), half))
@@ -92,6 +98,7 @@ EXAMPLES = r"""
     ((2, 1), (-2, 1), True)
     >>> are_apart(both, (0,), (2,))
     raises NoPlace(place=2)
+    # wishes
     >>> scatter, flip = wish_of(spread), even_source(((zero,), (unit,)))
     >>> scatter, central((1,), 2) == scatter, joint_spread((1,), (1,)) == scatter, wish_value(scatter, flip), wish_degree(scatter)
     (((((1,), (1,)), (-1, 1)), (((2,),), (1, 1))), True, True, (1, 4), 2)
@@ -106,18 +113,146 @@ EXAMPLES = r"""
     True
     >>> law_wish(uneven, 1)
     raises NoPlace(place=1)
+    # means
+    >>> fair = (("any", ((2,),), ((1,), (-1, 1))), ("any", ((1,), (1,)), ((-1,), (0, -1, 1))))
+    >>> plain = (("any", ((2,),), ((1,), (0, 1))), ("any", ((1,), (1,)), ((-1,), (0, 0, 1))))
+    >>> same_for_all(fair, right_writing(scatter)), is_there(fair, 1), written_form(fair, 2, 1) == spread, first_unlike(fair, plain)
+    (True, False, True, 2)
+    >>> mean_table(plain)
+    ((((1,), (1,)), ((1, -1), (0, 1))), (((2,),), ((-1, 1), (0, 1))))
+    >>> rows_needed(cumulant((1,), 3)), same_mean(a, b), is_parting_source(a, spread, 1, flip)
+    (2, True, True)
+    >>> written_mean(fair, 1)
+    raises Unfit()
+    # seats
+    >>> x, y, xy, one = (1, 0), (0, 1), (1, 1), (1, 1)
+    >>> both, pair = (((0, 1), 1),), (((0,), 1), ((0, 1), 1))
+    >>> shown_by(pair, 0), showing(pair, x), seating(pair, (y, x)), seatings(pair, (x,)), lacking_lot(both, (y, x))
+    ((0,), (0, 1), (1, 0), [(0,), (1,)], (0, 1))
+    >>> far, near, square = (((y, x), one),), (((y,), one), ((x,), one)), (((y, y), one),)
+    >>> [can_tell(both, own) for own in (far, near, square)], can_tell(pair, far), first_lacking(pair, square), most_seated(pair, (y, y, x))
+    ([False, True, False], True, (0, (0, 1)), 2)
+    >>> is_right_form(pair, far, (((x, y), one),)), even_form(pair, (((x,), one),)) == ((((0, 0), x), (1, 2)), ((x, (0, 0)), (1, 2)))
+    (True, True)
+    >>> fewest_kinds(((0,), (0, 1)), far), least_kinds(((0,), (0, 1)), far), fewest_kinds(((0,),), far), needless_samples(pair, near)
+    ((((0,), 1), ((0, 1), 1)), [(((0,), 1), ((0, 1), 1)), (((0, 1), 2),)], None, (0,))
+    >>> seating(both, (xy, xy))
+    raises CanNot()
+    # shifts
+    >>> o, half = (0, 1), (1, 2)
+    >>> at = [((own, one),) for own in ((o, o), (o, one), (one, one))]
+    >>> level, slope = (at[0], at[1]), (at[0], at[2])
+    >>> feeling(pair, level), feeling(pair, slope), alike_in(level[0], level[1], (0,))
+    ((1,), (0, 1), True)
+    >>> wish_powers(slope, far), wish_powers(level, far), wish_powers(slope, near), form_powers(slope, right_form(pair, far))
+    (((0, 1), (0, 1), (1, 1)), (), ((0, 1), (2, 1)), ((0, 1), (0, 1), (1, 1)))
+    >>> is_shift(both, far, slope), is_shift(pair, square, level), is_shift(pair, square, slope), is_shift(pair, far, slope)
+    (True, True, False, False)
+    >>> moves(slope, (xy, y)), moves(level, (x, y))
+    ([(1, 1), (1, 1)], [(0, 1), (1, 1)])
+    >>> blind, apart = corner_mix((o, o), (one, one), (0, 1)), (((0,), 1), ((1,), 1))
+    >>> blind[0] == (((o, o), half), ((one, one), half)), feeling(apart, blind), wish_powers(blind, (((xy,), one),)), unshown(apart, (((xy,), one),))
+    (True, (), ((1, 2), (-1, 2)), ((1, 1),))
+    >>> shift(pair, far)
+    raises CanNot()
+    # best
+    >>> third, half, one = (1, 3), (1, 2), (1, 1)
+    >>> first, second = ((((1,), (0,)), one),), ((((0,), (1,)), one),)
+    >>> spread_wish(first), excess(first), excess(evened(first))
+    (((((1,), (1,)), (-1, 1)), (((2,),), (1, 1))), ((((1,), (1,)), (-1, 2)), (((2,),), (1, 2))), ())
+    >>> square, even = ((((1,), (1,)), one),), ((((0, 1),), half), ((one,), half))
+    >>> pairs, two = best_program(square, 3, 1), ((((1,), (1,), (0,)), one),)
+    >>> pairs == ((((0,), (1,), (1,)), third), (((1,), (0,), (1,)), third), (((1,), (1,), (0,)), third))
+    True
+    >>> wish_value(spread_wish(two), even), wish_value(spread_wish(pairs), even), beats(pairs, two, even), beats(two, pairs, even)
+    ((3, 16), (5, 48), True, False)
+    >>> coin = (((second,), half), ((first,), half))
+    >>> dice_mean(coin) == evened(first), dice_excess(coin) == excess(first), best_mix(first, second, even), joint_wish(first, second)
+    (True, True, (1, 2), ((((1,), (1,)), (1, 1)),))
+    >>> best_program(square, 1, 1)
+    raises CanNot()
+    >>> worse_source(pairs)
+    raises CanNot()
+    >>> best_mix(first, (), even)
+    raises Unfit()
+    # noughts
+    >>> kinds, one, none, x, y = (((0,), 1), ((0, 1), 2)), (1, 1), (0, 0), (1, 0), (0, 1)
+    >>> best_with(kinds, (((x,), one),)) == tuple([(own, (1, 3)) for own in ((none, none, x), (none, x, none), (x, none, none))])
+    True
+    >>> second, away = (((none, y, none), one),), (((none, x, none), one), ((x, none, none), (-1, 1)))
+    >>> quiet_columns(kinds, 1), is_level(kinds, second), is_best(kinds, second), is_nought(away)
+    ((0,), False, False, True)
+    >>> same = ((((0, 1), (0, 1)), (1, 2)), ((one, one), (1, 2)))
+    >>> paper = (away, same)
+    >>> is_beating_paper(kinds, second, paper), [wish_value(spread_wish(own), same) for own in (second, beaten_by(second, paper))]
+    (True, [(1, 4), (1, 8)])
+    >>> mean_over(away, (0,)), nought_basis(kinds, y)
+    (((((0, 0), (0, 0), (0, 0)), ((((1, 0),), (-1, 1)),)), (((0, 0), (1, 0), (0, 0)), (((), (1, 1)),))), [((((0, 0), (0, 0), (0, 1)), (-1, 1)), (((0, 0), (0, 1), (0, 0)), (1, 1)))])
+    >>> best_with(kinds, (((y,), one),))
+    raises CanNot()
+    # layers
+    >>> half, mean, square = (1, 2), ((((1,),), (1, 1)),), ((((1,), (1,)), (1, 1)),)
+    >>> coin = ((((0, 1),), half), (((1, 1),), half))
+    >>> shared_mean(square, 1), layer(mean, 1)
+    (((((1,), (1,), (2,)), (1, 1)),), ((((1,), (1,)), (-1, 1)), (((2,),), (1, 1))))
+    >>> layers_at(square, coin), layer_shares(square, 3), part_form(square, coin, 1)
+    ([(1, 16), (1, 16)], [(4, 3), (1, 3)], ((((0,),), (-1, 4)), (((1,),), (1, 2))))
+    >>> best_spread(mean, 4), enough_samples(square, coin, (1, 100))
+    (((((1,), (1,)), (-1, 4)), (((2,),), (1, 4))), 26)
+    >>> own_spread(mean, 2, 1)
+    ((((0,), (2,)), (1, 4)), (((1,), (1,)), (-1, 2)), (((2,), (0,)), (1, 4)))
+    >>> zero, unit = ((((0, 1),), (1, 1)),), ((((1, 1),), (1, 1)),)
+    >>> [is_spread_paper(mean, n, 1, (zero, unit)) for n in (1, 2)], is_spread_paper(mean, 1, 1, (zero, zero))
+    ([True, False], False)
+    >>> own_spread(mean, 1, 1)
+    raises CanNot()
+    # sums
+    >>> one, less = (1, 1), (-1, 1)
+    >>> square, spread = ((((1,), (1,)), one),), ((((0,), (2,)), one), (((1,), (1,)), less))
+    >>> rows = (((1, 1),), ((2, 1),), ((4, 1),))
+    >>> total_at(square, rows), unlike_at(square, rows), total_at(spread, rows), form_of(square, 1, 1)
+    ((49, 1), (28, 1), (14, 1), ((((2,),), (1, 1)),))
+    >>> in_unlike(square), from_unlike(square)[1:], in_unlike(spread) == spread
+    (((((1,), (1,)), (1, 1)), (((2,),), (1, 1))), ((((2,),), (-1, 1)),), True)
+    >>> right_value(square, rows), times_totals(square, scaled_total(square, (1, 2)))
+    ((14, 3), ((((1,), (1,), (1,), (1,)), (1, 2)),))
+    >>> right_value(square, rows[:1])
+    raises CanNot()
+    # keepers
+    >>> fewest_kept(square), straight_kept(square), fewest_kept(spread), straight_kept(spread)
+    (1, 3, 3, 5)
+    >>> made_keeper(square, 1)
+    (((0, 1),), ((((0, 1), (1, 1)), ((1, 0), (1, 1))),), (((2,), (1, 1)),))
+    >>> adder = made_keeper(spread, 1)
+    >>> kept_behind(adder, rows), told(adder, rows), merged(adder, kept_behind(adder, rows), kept_behind(adder, rows[:1]))
+    (((3, 1), (7, 1), (21, 1)), (14, 1), ((4, 1), (8, 1), (22, 1)))
+    >>> added_total(adder) == spread, taken_back(adder, ((3, 1), (7, 1), (21, 1)), rows[2]), slope(spread, (1,))
+    (True, ((2, 1), (3, 1), (5, 1)), ((((1,),), (-2, 1)),))
+    >>> sides = ((((1,),), one), (((2,),), one))
+    >>> kept_forms(times_totals(sides, sides)) == (sides,)
+    True
+    >>> heads = ((), rows[:1], rows[1:2])
+    >>> is_straight_paper(square, (heads, heads), 1), [is_slope_paper(square, (own, (rows,)), 1) for own in (((1,),), ((2,),))]
+    (True, [True, False])
+    >>> swap = (((0, 1), (1, 1)), ((((0, 1, 0), one),), (((1, 0, 0), one),)), (((1, 0), one),))
+    >>> is_straight(swap), is_adder(swap), told(swap, rows)
+    (True, False, (1, 1))
+    >>> merged(swap, ((0, 1), (1, 1)), ((0, 1), (1, 1)))
+    raises Unfit()
 """
 
 
 def examples():
-    """The list of pairs (row, what it shows or None)."""
-    out = []
+    """The list of triples (row, what it shows or None, the file in whose section it stands)."""
+    out, file = [], None
     for row in EXAMPLES.strip().split("\n"):
         row = row.strip()
-        if row.startswith(">>> "):
-            out.append((row[4:], None))
+        if row.startswith("# "):
+            file = row[2:]
+        elif row.startswith(">>> "):
+            out.append((row[4:], None, file))
         elif row:
-            out[-1] = (out[-1][0], row)
+            out[-1] = (out[-1][0], row, file)
     return out
 
 
@@ -133,19 +268,20 @@ def shown(row, names):
 class ExampleTest(unittest.TestCase):
 
     def test_examples(self):
-        names = {}
-        for file in FILES:
-            module = importlib.import_module("everysource." + file)
-            names.update({name: value for name, value in vars(module).items() if not name.startswith("_")})
-        tried = 0
-        for row, result in examples():
+        names, last, tried = {}, None, 0
+        for row, result, file in examples():
+            if file != last:
+                # A section's own functions are meant where an example ahead gave their names to something else.
+                module = importlib.import_module("everysource." + file)
+                names.update({name: getattr(module, name) for name, _ in entries(INTERFACE[file])})
+                last = file
             if result is None:
                 exec(row, names)
                 continue
             with self.subTest(row=row):
                 self.assertEqual(shown(row, names), result)
                 tried += 1
-        self.assertEqual(tried, 39)
+        self.assertEqual(tried, 84)
 
 
 if __name__ == "__main__":

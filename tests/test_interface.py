@@ -36,6 +36,36 @@ INTERFACE = {
               "wish_less(one, other), wish_times(one, other), wish_scaled(wish, x), wish_renamed(wish, order), "
               "joined_moment(moment, other), joint_spread(moment, other), central(moment, many), "
               "cumulant(moment, many), wish_of(form), law_wish(teller, place), is_right(teller, wish)",
+    "means": "rows_needed(wish), showing_source(wish, c), same_mean(form, other), parting_source(form, other, c), "
+             "is_parting_source(form, other, c, thing), is_writing(thing, c), is_there(writing, n), "
+             "written_form(writing, n, c), written_mean(writing, n), mean_table(writing), same_for_all(one, "
+             "other), first_unlike(one, other), right_writing(wish)",
+    "seats": "shown_by(kinds, sample), showing(kinds, moment), is_seating(kinds, factors, thing), seating(kinds, "
+             "factors), seatings(kinds, factors), most_seated(kinds, factors), is_lacking_lot(kinds, factors, "
+             "thing), lacking_lot(kinds, factors), can_tell(kinds, wish), first_lacking(kinds, wish), "
+             "part_told(kinds, wish), right_form(kinds, wish), even_form(kinds, wish), is_right_form(kinds, wish, "
+             "thing), needless_samples(kinds, wish), least_kinds(seens, wish), fewest_kinds(seens, wish)",
+    "shifts": "is_mix_of(thing, c), alike_in(source, other, seen), feeling(kinds, mix), wish_powers(mix, wish), "
+              "form_powers(mix, form), moves(mix, moments), corner_mix(low, high, seen), joined_mix(mixes, "
+              "weights), is_shift(kinds, wish, thing), shift(kinds, wish), blind_shift(kinds, wish), unshown(kinds, "
+              "wish)",
+    "best": "spread_wish(form), joint_wish(form, other), excess(form), best_program(wish, n, c), beats(form, "
+            "other, source), worse_source(form), best_mix(form, other, source), dice_mean(teller), "
+            "dice_excess(teller)",
+    "noughts": "mean_over(form, lot), is_nought(form), nought_basis(kinds, sums), is_level(kinds, form), "
+               "quiet_columns(kinds, sample), is_best(kinds, form), best_with(kinds, wish), beating_paper(kinds, "
+               "form), is_beating_paper(kinds, form, thing), beaten_by(form, paper)",
+    "layers": "shared_mean(wish, k), layer(wish, k), part_form(wish, source, k), layers_at(wish, source), "
+              "layer_shares(wish, n), best_spread(wish, n), enough_samples(wish, source, most), own_spread(wish, n, "
+              "c), spread_paper(wish, n, c), is_spread_paper(wish, n, c, thing)",
+    "sums": "is_total(thing, c), total_at(total, rows), unlike_at(total, rows), plus_totals(total, other), "
+            "times_totals(total, other), scaled_total(total, x), in_unlike(total), from_unlike(total), "
+            "form_of(total, n, c), right_value(wish, rows)",
+    "keepers": "is_keeper(thing, c), kept_behind(keeper, rows), told(keeper, rows), is_adder(keeper), "
+               "is_straight(keeper), merged(keeper, kept, others), taken_back(keeper, kept, row), "
+               "added_total(keeper), slope(total, powers), fewest_kept(total), straight_kept(total), "
+               "kept_forms(total), made_keeper(total, c), straight_keeper(total, c), slope_paper(total, c), "
+               "straight_paper(total, c), is_slope_paper(total, thing, c), is_straight_paper(total, thing, c)",
 }
 
 
