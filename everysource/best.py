@@ -102,14 +102,14 @@ def check_one_tell(teller):
 def dice_mean(teller):
     check_one_tell(teller)
     pairs = []
-    for (form,), weight in as_tuples(teller):
-        pairs.extend(scaled(form, weight))
+    for tells, weight in as_tuples(teller):
+        pairs.extend(scaled(tells[0], weight))
     return summed(pairs)
 
 
 def dice_excess(teller):
     mean = dice_mean(teller)
     pairs = []
-    for (form,), weight in as_tuples(teller):
-        pairs.extend(scaled(joint_wish(form, form), weight))
+    for tells, weight in as_tuples(teller):
+        pairs.extend(scaled(joint_wish(tells[0], tells[0]), weight))
     return wish_less(summed(pairs), joint_wish(mean, mean))

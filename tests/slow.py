@@ -246,7 +246,9 @@ def spoiled(thing):
             out.append(with_part(thing, path, (part, None)))
         else:
             out.append(with_part(thing, path, (part,)))
-            out.append(with_part(thing, path, str(part)))
+            out.append(with_part(thing, path, str(part) + " "))
+            if not isinstance(part, str):
+                out.append(with_part(thing, path, str(part)))
     return out
 
 
@@ -255,3 +257,79 @@ STRANGE = (
     ((), ()), ((), None), (((), (1, 1)), None), ((1, 1),), (((), (1, 1), ()),), deep(99), deep(99, list),
     (1, 2, 3), ((1, 2), (3, 4)), (((0,), 1), None), 10 ** 40, (10 ** 40,), "x" * 1000,
 )
+
+
+def kinds_of(drawn, c, most=4):
+    """KINDS for c columns with at most so many samples."""
+    seens = [tuple(k for k in range(c) if bits >> k & 1) for bits in range(1, 2 ** c)]
+    out = {}
+    for _ in range(drawn.number(1, most)):
+        seen = drawn.choice(seens)
+        out[seen] = out.get(seen, 0) + 1
+    return tuple(sorted(out.items()))
+
+
+def shown_by(kinds):
+    return [seen for seen, many in kinds for _ in range(many)]
+
+
+def shows(seen, moment):
+    return all(k == 0 or column in seen for column, k in enumerate(moment))
+
+
+def fitting_form(drawn, kinds, c, pairs=3, high=2):
+    """A FORM that fits KINDS."""
+    shown = shown_by(kinds)
+    out = []
+    for _ in range(drawn.number(0, pairs)):
+        powers = drawn.powers(len(shown), c, high)
+        fit = tuple(tuple(k if column in seen else 0 for column, k in enumerate(own)) for own, seen in zip(powers, shown))
+        out.append((fit, exact(drawn.fraction_not_0())))
+    return from_sums(added(out))
+
+
+def times(form, other):
+    """The product of two FORMS."""
+    return from_sums(added([
+        (tuple(tuple(k + m for k, m in zip(own, far)) for own, far in zip(powers, more)), exact(x) * exact(y))
+        for powers, x in form for more, y in other]))
+
+
+def plus(form, other, share=1):
+    """The sum of one and share times other, also of WISHES and TOTALS."""
+    return from_sums(added([(key, exact(x)) for key, x in form] + [(key, share * exact(x)) for key, x in other]))
+
+
+def wish_of(form):
+    return from_sums(added([(tuple(sorted(own for own in powers if any(own))), exact(x)) for powers, x in form]))
+
+
+def partings(many):
+    """All ways in which so many places fall into lots, each a list of lots of places."""
+    if many == 0:
+        return [[]]
+    out = []
+    for lots in partings(many - 1):
+        out.append(lots + [[many - 1]])
+        for k, lot in enumerate(lots):
+            out.append(lots[:k] + [lot + [many - 1]] + lots[k + 1:])
+    return out
+
+
+def spread(teller, source, n):
+    """The mean of the square of what a TELLER of one tell tells less the square of its mean."""
+    table = told(teller, source, n)
+    first = sum((x * exact(numbers[0]) for numbers, x in table.items()), Fraction(0))
+    return sum((x * exact(numbers[0]) ** 2 for numbers, x in table.items()), Fraction(0)) - first ** 2
+
+
+def source_of_rows(drawn, c, many, high=9):
+    """A SOURCE of just so many ROWS."""
+    while True:
+        rows = {drawn.row(c, high) for _ in range(many)}
+        if len(rows) == many:
+            return ranked(added(list(zip(sorted(rows), [exact(x) for x in drawn.shares(many)]))))
+
+
+def wish_degree(wish):
+    return max((len(factors) for factors, _ in wish), default=0)
