@@ -259,12 +259,12 @@ STRANGE = (
 )
 
 
-def kinds_of(drawn, c, most=4):
-    """KINDS for c columns with at most so many samples."""
+def kinds_of(drawn, c, most=4, few=9):
+    """KINDS for c columns with at most so many samples, often of few kinds."""
     seens = [tuple(k for k in range(c) if bits >> k & 1) for bits in range(1, 2 ** c)]
-    out = {}
-    for _ in range(drawn.number(1, most)):
-        seen = drawn.choice(seens)
+    options, out = [drawn.choice(seens) for _ in range(few)], {}
+    for _ in range(drawn.choice((drawn.number(1, most), most))):
+        seen = drawn.choice(options)
         out[seen] = out.get(seen, 0) + 1
     return tuple(sorted(out.items()))
 
@@ -282,8 +282,8 @@ def fitting_form(drawn, kinds, c, pairs=3, high=2):
     shown = shown_by(kinds)
     out = []
     for _ in range(drawn.number(0, pairs)):
-        powers = drawn.powers(len(shown), c, high)
-        fit = tuple(tuple(k if column in seen else 0 for column, k in enumerate(own)) for own, seen in zip(powers, shown))
+        fit = tuple(tuple(drawn.number(0, high) if column in seen else 0 for column in range(c))
+                    if drawn.number(0, 2) else (0,) * c for seen in shown)
         out.append((fit, exact(drawn.fraction_not_0())))
     return from_sums(added(out))
 

@@ -199,7 +199,7 @@ class ShiftTest(unittest.TestCase):
             else:
                 self.check_blind(kinds, wish, got[1], c)
                 blinds += 1
-        self.assertGreater(min(found, 90 - found, blinds, found - blinds), 10)
+        self.assertGreater(min(found, 90 - found, blinds, found - blinds), 5)
 
     def check_shift(self, kinds, wish, mix, c):
         self.assertTrue(all(is_source(part, c) for part in mix) and len(mix) == 2)
