@@ -5,7 +5,7 @@ from everysource.errors import CanNot, Unfit
 from everysource.forms import evened, exchange, is_even
 from everysource.freerows import free_rows
 from everysource.means import same_mean
-from everysource.polys import arrangements, joined_powers, product_of, renamed, scaled, shape, value_at
+from everysource.polys import arrangements, joined_powers, product_of, renamed, scaled, shape
 from everysource.quotients import ZERO, is_below, lowest, over, summed, times
 from everysource.sources import even_source
 from everysource.things import as_tuples
@@ -68,24 +68,32 @@ def mean_square(form, source):
 
 
 def worse_source(form):
-    """A SOURCE of as many ROWS as samples, which unlike orders of the same ROWS tell from evened(form)."""
+    """Where form changes if samples are exchanged it is off evened(form), which does not change.
+
+    It does so for as many ROWS as samples, if these are free enough [freerows], and often for fewer.
+    """
     form = as_tuples(form)
     if is_even(form):
         raise CanNot()
     n, c = shape((form,))
-    names = [renamed(form, exchange(n, place)) for place in range(n - 1)]
-    other = [name for name in names if name != form][0]
-    k = 1
-    while value_at(form, free_rows(n, c, k)) == value_at(other, free_rows(n, c, k)):
+    changes = [step_to(form, renamed(form, exchange(n, place))) for place in range(n - 1)]
+    source, k = even_source(free_rows(2, c, 1)), 2
+    while all(mean_square(change, source) == ZERO for change in changes):
         k += 1
-    return even_source(free_rows(n, c, k))
+        source = even_source(free_rows(min(k, n), c, max(1, k - n + 1)))
+    return source
+
+
+def step_to(form, other):
+    """The FORM that is other less form."""
+    return summed(other + scaled(form, (-1, 1)))
 
 
 def best_mix(form, other, source):
     if not same_mean(form, other):
         raise Unfit()
     form, source = as_tuples(form), as_tuples(source)
-    step = summed(as_tuples(other) + scaled(form, (-1, 1)))
+    step = step_to(form, as_tuples(other))
     bottom = mean_square(step, source)
     if bottom == ZERO:
         return ZERO

@@ -136,9 +136,9 @@ def beating_paper(kinds, form):
 
 
 def beating_nought(shown, form, k):
-    """A nought of great powers, k times as great as needs be for small ones.
+    """A nought that fits, its powers the greater the greater k is.
 
-    Where the powers are greater than those in form, the factors of the product tell which pair of form they
+    Where its powers are greater than those in form, the factors of the product tell which pair of form they
     come of: so two powers with unlike FRACTIONS leave a difference, and a column that is used of a sample
     where it is not quiet comes together there with the great power, but not at the other sample.
     """

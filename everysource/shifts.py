@@ -4,7 +4,7 @@ from everysource.errors import CanNot, Unfit
 from everysource.forms import kind_samples
 from everysource.freerows import free_chances, free_rows
 from everysource.quotients import ONE, ZERO, less, plus, times
-from everysource.seats import can_tell, first_lacking, showers
+from everysource.seats import first_lacking, showers
 from everysource.sources import even_source, is_source, moment_at, ranked, shown_source
 from everysource.things import as_tuples, is_tuple_of
 from everysource.wishes import wish_columns, wish_degree, wish_moments, wish_of, wish_value
@@ -111,14 +111,13 @@ def is_shift(kinds, wish, thing):
 
 
 def shift(kinds, wish):
-    """What samples outside of a lot show that is lacked stays as it is; all else moves freely.
+    """What samples show that show nothing of a LACKING LOT stays as it is; what they do not show moves freely.
 
-    So the power of t is as high as the most factors that move in one pair, those of the lot at least.
+    So only the few samples that show something of the lot feel the mix, but all of its factors move: there
+    is a power of t as high as the most factors in one pair that move.
     """
-    if can_tell(kinds, wish):
-        raise CanNot()
-    wish = as_tuples(wish)
     place, lot = first_lacking(kinds, wish)
+    wish = as_tuples(wish)
     lacked = [wish[place][0][own] for own in lot]
     blind = [seen for seen in kind_samples(kinds) if not any(showers((seen,), moment) for moment in lacked)]
     columns = moving_columns(blind, wish)
@@ -130,7 +129,7 @@ def shift(kinds, wish):
 
 
 def moving_columns(blind, wish):
-    """The set of what the MOMENTS of wish use that no sample shows that shows what blind has."""
+    """The sets of columns that are used by those MOMENTS of wish that none of blind shows."""
     moments = [moment for moment in wish_moments(wish) if not showers(tuple(blind), moment)]
     return tuple(sorted({wish_columns((((moment,), ONE),)) for moment in moments}))
 

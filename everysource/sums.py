@@ -1,10 +1,10 @@
 """TOTALS: polynomials in sums over rows, and sums over unlike rows."""
 
 from everysource.errors import CanNot
-from everysource.forms import number_form
 from everysource.lots import falling, lot_powers, lot_signs, lots_of
-from everysource.polys import monomial, placed, product_of, scaled
-from everysource.quotients import ONE, ZERO, lowest, plus, summed, times
+from everysource.means import any_powers
+from everysource.polys import monomial, scaled
+from everysource.quotients import ZERO, lowest, plus, summed, times
 from everysource.things import are_powers, as_tuples, is_fraction_not_0, is_tuple_of, rises
 from everysource.wishes import wish_degree, wish_times
 
@@ -77,18 +77,7 @@ def from_unlike(total):
 
 
 def form_of(total, n, c):
-    pairs = []
-    for factors, x in as_tuples(total):
-        form = number_form(n, c, x)
-        for powers in factors:
-            form = product_of(form, sum_form(powers, n, c))
-        pairs.extend(form)
-    return summed(pairs)
-
-
-def sum_form(powers, n, c):
-    """The FORM of the sum by these powers of n samples."""
-    return summed([(placed((((powers,), ONE),), place, n - place - 1, c)[0][0], ONE) for place in range(n)])
+    return summed([(powers, x) for factors, x in as_tuples(total) for powers in any_powers(factors, n, c)])
 
 
 def right_value(wish, rows):

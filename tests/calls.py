@@ -33,10 +33,17 @@ def check_call(test, function, *args):
     return first
 
 
+# Those of which the document says that they return a list, or several results without naming a tuple.
+LISTS = (
+    "drawings", "all_orders", "alike_samples", "apart_lots", "seatings", "least_kinds", "moves", "nought_basis",
+    "layers_at", "layer_shares")
+
+
 def check_result(test, function, args, first):
     if first[0] == "error":
         return
     out = first[1]
+    test.assertEqual(isinstance(out, list), function.__name__ in LISTS, function.__name__)
     if isinstance(out, list):
         again = function(*args)
         test.assertIsNot(again, out)

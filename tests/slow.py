@@ -331,5 +331,25 @@ def source_of_rows(drawn, c, many, high=9):
             return ranked(added(list(zip(sorted(rows), [exact(x) for x in drawn.shares(many)]))))
 
 
+def null_line(table):
+    """FRACTIONS, not all 0, whose products with each line of the table come to 0, where places outnumber lines."""
+    table, places = [list(line) for line in table], []
+    for column in range(len(table[0])):
+        first = next((k for k in range(len(places), len(table)) if table[k][column] != 0), None)
+        if first is None:
+            out = [Fraction(0)] * len(table[0])
+            out[column] = Fraction(1)
+            for k, place in enumerate(places):
+                out[place] = -table[k][column]
+            return out
+        done = len(places)
+        table[done], table[first] = table[first], table[done]
+        table[done] = [x / table[done][column] for x in table[done]]
+        for k in range(len(table)):
+            if k != done:
+                table[k] = [x - table[k][column] * y for x, y in zip(table[k], table[done])]
+        places.append(column)
+
+
 def wish_degree(wish):
     return max((len(factors) for factors, _ in wish), default=0)

@@ -193,6 +193,10 @@ class KeeperTest(unittest.TestCase):
                 ((((0, 0), HALF), ((1, 0), UNIT)), True, False)):
             keeper = ((HALF,), (deeds,), (((1,), UNIT),))
             self.assertEqual((is_adder(keeper), is_straight(keeper)), (adds, lines), deeds)
+        for deed, adds in (
+                ((((1, 0, 1), UNIT),), False), ((((0, 0, 1), HALF), ((0, 1, 1), HALF), ((1, 0, 0), UNIT)), True),
+                ((((1, 0, 0), UNIT), ((1, 1, 0), HALF)), False)):
+            self.assertIs(is_adder(((HALF,), (deed,), ())), adds)
         swap = ((ZERO, UNIT), ((((0, 1, 0), UNIT),), (((1, 0, 0), UNIT),)), ())
         self.assertEqual((is_adder(swap), is_straight(swap)), (False, True))
         for tell, lines in ((), True), ((((), HALF),), False):
@@ -417,7 +421,7 @@ class PaperTest(unittest.TestCase):
             self.assertIs(is_straight_paper(SQUARE, thing, 1), thing == ((), ()) and isinstance(thing, tuple), thing)
         for thing, right in (
                 (((), ()), True), ((((),), ((),)), False), (((ends[1],), (ends[1],)), True), ((ends, ends[::-1]), True),
-                ((ends, ends[:2]), False), ((ends[:2] + ends[:1], ends), False), ((ends + ((((3, 1),),),),) * 2, False),
+                ((ends, ends[:2]), False), ((ends[:2], ends), False), (((), ends[:1]), False), ((ends[:2] + ends[:1], ends), False), ((ends + ((((3, 1),),),),) * 2, False),
                 ((ends, ends, ends), False), ((ends,), False), (((((2, 2),),),) * 2, False),
                 ((((((1, 1), (1, 1)),),),) * 2, False), ((((((HUGE ** 9, 2),),) * 30,),) * 2, True)):
             self.assertIs(is_straight_paper(SQUARE, thing, 1), right, thing)

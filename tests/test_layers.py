@@ -191,6 +191,22 @@ class OwnTest(unittest.TestCase):
                 self.assertIs(is_spread_paper(wish, n, c, mix), True)
                 check_call(self, is_spread_paper, wish, n, c, mix)
 
+    def test_wishes_that_hide(self):
+        # Each wish has no power of t above n along all mixes that were found before.
+        parts = [(k,) for k in range(1, 6)]
+        coefficients, mixes = [Fraction(1)] * 5, []
+        while len(mixes) < 5:
+            wish = slow.from_sums(dict(zip([(own,) for own in parts], coefficients)))
+            mix = spread_paper(wish, 1, 1)
+            self.assertTrue(self.rises(wish, 1, mix))
+            self.assertIs(is_spread_paper(wish, 1, 1, mix), True)
+            self.assertNotIn(mix, mixes)
+            mixes.append(mix)
+            if len(mixes) < 5:
+                coefficients = slow.null_line([[
+                    slow.wish_value((((own,), UNIT),), mix[1]) - slow.wish_value((((own,), UNIT),), mix[0])
+                    for own in parts] for mix in mixes])
+
     def rises(self, wish, n, mix):
         """Whether the spread has a power above n along the MIX: whether n + 1 differences leave anything."""
         spread = best_spread(wish, n)

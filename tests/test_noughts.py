@@ -287,6 +287,7 @@ class PaperTest(unittest.TestCase):
     def check_beaten(self, form, paper, n):
         nought, source = paper
         less = check_call(self, beaten_by, form, paper)[1]
+        self.assertTrue(is_form(less, n, len(form[0][0][0])))
         off = slow.plus(form, less, -1)
         share = slow.exact(off[0][1]) / slow.exact(dict(nought)[off[0][0]])
         self.assertEqual(off, slow.from_sums({powers: share * slow.exact(x) for powers, x in nought}))
@@ -308,6 +309,23 @@ class PaperTest(unittest.TestCase):
         loud = tuple(sorted((((NONE, Y, NONE), HALF), ((NONE, NONE, Y), HALF))))
         self.assertIs(is_level(KINDS, loud), True)
         self.assertIs(is_beating_paper(KINDS, loud, beating_paper(KINDS, loud)), True)
+
+    def test_forms_that_hide(self):
+        # Each FORM is made such that its products with all noughts that were found before have the mean 0.
+        for kinds, parts in (
+                ((((0,), 1), ((0, 1), 1)), [(NONE, (k, m)) for k in (0, 1, 2) for m in (1, 2)]),
+                ((((0, 1), 2),), [(X, NONE), ((2, 0), NONE), (Y, NONE), (XY, NONE)])):
+            coefficients, papers = [Fraction(1)] * len(parts), []
+            while coefficients is not None and len(papers) < 4:
+                form = slow.from_sums(dict(zip(parts, coefficients)))
+                paper = beating_paper(kinds, form)
+                self.assertIs(is_beating_paper(kinds, form, paper), True)
+                self.assertNotEqual(slow.mean(slow.times(form, paper[0]), paper[1], 2), 0)
+                papers.append(paper)
+                products = [[slow.wish_of(slow.times(((own, UNIT),), nought)) for own in parts] for nought, _ in papers]
+                table = [[slow.exact(dict(wish).get(factors, ZERO)) for wish in line]
+                         for line in products for factors in sorted({key for wish in line for key, _ in wish})]
+                coefficients = slow.null_line(table)
 
     def test_wrong_papers(self):
         form = (((NONE, Y, NONE), UNIT),)

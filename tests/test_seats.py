@@ -194,6 +194,14 @@ class TellTest(unittest.TestCase):
                 ((((0, 0), (HUGE, 0)), (HUGE, 7)), ((X, Y), UNIT), (((HUGE, 0), (0, 0)), (-HUGE, 7)))):
             self.assertIs(is_right_form(kinds, wish, tuple(sorted(thing))), True, thing)
 
+    def test_columns_that_no_sample_shows(self):
+        kinds, wish = (((0,), 2),), ((((1, 0, 0),), UNIT),)
+        none, first = (0, 0, 0), (1, 0, 0)
+        self.assertEqual(even_form(kinds, wish), (((none, first), HALF), ((first, none), HALF)))
+        self.assertEqual(right_form(kinds, wish), (((first, none), UNIT),))
+        self.assertIs(is_right_form(kinds, wish, (((none, first), UNIT),)), True)
+        self.assertIs(is_right_form(kinds, wish, ((((0,), (1,)), UNIT),)), False)
+
     def test_wishes_without_moments(self):
         for wish, form in (((), ()), ((((), HALF),), ((((0, 0), (0, 0)), HALF),))):
             kinds = (((0,), 1), ((1,), 1))

@@ -230,6 +230,44 @@ class ShiftTest(unittest.TestCase):
             self.check_shift(kinds, wish, shift(kinds, wish), 3)
             self.check_blind(kinds, wish, blind_shift(kinds, wish), 3)
 
+    def test_wishes_that_hide(self):
+        # Each wish is made such that it comes to nothing along all mixes that were found before.
+        lone = (((0,), 1),)
+        for kinds, parts, power in (
+                (lone, [((0, k),) for k in (1, 2, 3, 4, 5)], 1), ((((0, 1), 1),), [(Y, X), (X, X), (Y, Y), (Y, XY)], 2)):
+            parts, mixes, coefficients = sorted(parts), [], [Fraction(1)] * len(parts)
+            while len(mixes) < len(parts):
+                wish = tuple((factors, slow.pair(x)) for factors, x in zip(parts, coefficients) if x != 0)
+                mix = shift(kinds, wish)
+                self.check_shift(kinds, wish, mix, 2)
+                self.assertNotIn(mix, mixes)
+                mixes.append(mix)
+                if len(mixes) < len(parts):
+                    coefficients = slow.null_line([self.at_power(own, parts, power) for own in mixes])
+
+    def at_power(self, mix, parts, power):
+        """What stands at this power of t for each of some products."""
+        out = []
+        for factors in parts:
+            powers = wish_powers(mix, ((factors, UNIT),))
+            out.append(slow.exact(powers[power]) if len(powers) > power else Fraction(0))
+        return out
+
+    def test_wishes_that_hide_in_blind_mixes(self):
+        for parts in ([((0, k),) for k in (1, 2, 3, 4, 5)], [((1, 0), (k, 1)) for k in (1, 2, 3, 4)], [(Y, XY), (XY, XY), (Y, Y)]):
+            parts, mixes, coefficients = sorted(tuple(sorted(own)) for own in parts), [], None
+            coefficients = [Fraction(1)] * len(parts)
+            while len(mixes) < len(parts):
+                wish = tuple((factors, slow.pair(x)) for factors, x in zip(parts, coefficients) if x != 0)
+                mix = blind_shift((((0,), 1),), wish)
+                self.check_blind((((0,), 1),), wish, mix, 2)
+                self.assertNotIn(mix, mixes)
+                mixes.append(mix)
+                if len(mixes) < len(parts):
+                    coefficients = slow.null_line([[
+                        slow.wish_value(((own, UNIT),), mix[1]) - slow.wish_value(((own, UNIT),), mix[0])
+                        for own in parts] for mix in mixes])
+
     def test_is_shift(self):
         drawn, some = slow.Drawn(8), 0
         for _ in range(120):
