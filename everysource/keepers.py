@@ -2,11 +2,13 @@
 
 from everysource.errors import Unfit
 from everysource.freerows import free_rows
-from everysource.lines import are_free, first_place, rank, reduced
+from everysource.lines import are_free, first_place, rank, reduced, with_line
 from everysource.polys import monomial, plus_powers, scaled
 from everysource.quotients import ONE, ZERO, less, plus, summed, times
 from everysource.sums import plus_totals, times_totals, total_at
 from everysource.things import are_fractions, are_powers, as_tuples, is_fraction_not_0, is_tuple_of, rises
+
+MOST_SMALL_ROWS = 7
 
 
 def is_keeper(thing, c):
@@ -264,21 +266,30 @@ def straight_paper(total, c):
 
 
 def free_ends(totals, c):
-    """As many ends as TOTALS, which are independent, at which their values are independent lines.
-
-    What is left of the TOTALS where they are 0 at all ends that are found is not 0 at some number of rows;
-    great powers of primes [freerows] show it there.
-    """
-    ends, lines = (), []
-    k = 0
+    """As many ends as TOTALS, which are independent, at which their values are independent lines."""
+    ends, basis, k = (), [], 0
     while len(ends) < len(totals):
+        for end in ends_to_try(k, c):
+            wider = with_line(basis, [total_at(own, end) for own in totals])
+            if len(wider) > len(basis):
+                ends, basis = ends + (end,), wider
         k += 1
-        for many in range(k + 1):
-            end = free_rows(many, c, k)
-            line = [total_at(own, end) for own in totals]
-            if are_free(lines + [line]):
-                ends, lines = ends + (end,), lines + [line]
     return ends
+
+
+def ends_to_try(k, c):
+    """The list of all lots of the first k free rows with the last of them; for great k rows of great powers.
+
+    What is left of TOTALS where they are 0 at all ends that are found is not 0 at some number of rows: if
+    all these lots do not show it, great powers of primes [freerows] do.
+    """
+    if k > MOST_SMALL_ROWS:
+        return [free_rows(many, c, k) for many in range(k + 1)]
+    rows = free_rows(k, c, 1)
+    out = [()]
+    for row in rows[:-1]:
+        out = out + [lot + (row,) for lot in out]
+    return [lot + rows[-1:] for lot in out]
 
 
 def are_row_lots(thing, c):

@@ -11,12 +11,18 @@ def reduced(lines):
     """
     basis = []
     for line in lines:
-        line = rest_by(basis, line)
-        place = first_place(line)
-        if place is not None:
-            line = [over(x, line[place]) for x in line]
-            basis = [taken_off(own, line, place) for own in basis] + [line]
+        basis = with_line(basis, line)
     return sorted(basis, key=first_place)
+
+
+def with_line(basis, line):
+    """The reduced basis, in any order, of such a basis and a further line; the basis itself if the line comes of it."""
+    line = rest_by(basis, line)
+    place = first_place(line)
+    if place is None:
+        return basis
+    line = [over(x, line[place]) for x in line]
+    return [taken_off(own, line, place) for own in basis] + [line]
 
 
 def rest_by(basis, line):

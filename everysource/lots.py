@@ -9,19 +9,24 @@ from everysource.polys import plus_powers
 
 def lots_of(factors):
     """The dict of the lots, tuples of pairs (sums of powers, how many factors), with in how many ways."""
+    return few_lots_of(factors, len(factors))
+
+
+def few_lots_of(factors, most):
+    """The same with only so many lots at the most."""
     states = {(): 1}
     for own in factors:
         later = {}
         for lots, count in states.items():
-            for wider in wider_lots(lots, own):
+            for wider in wider_lots(lots, own, most):
                 later[wider] = later.get(wider, 0) + count
         states = later
     return states
 
 
-def wider_lots(lots, own):
+def wider_lots(lots, own, most):
     """The list of what comes of lots if one more factor is put to one of them, or makes a lot of its own."""
-    out = [tuple(sorted(lots + ((own, 1),)))]
+    out = [tuple(sorted(lots + ((own, 1),)))] if len(lots) < most else []
     for place, (powers, many) in enumerate(lots):
         joined = (plus_powers(powers, own), many + 1)
         out.append(tuple(sorted(lots[:place] + (joined,) + lots[place + 1:])))

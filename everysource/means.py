@@ -4,7 +4,7 @@ from itertools import permutations
 
 from everysource.apart import free_source
 from everysource.errors import CanNot, Unfit
-from everysource.lots import falling, lot_powers, lots_of
+from everysource.lots import falling, few_lots_of, lot_powers, lots_of
 from everysource.polys import plus_powers
 from everysource.quotients import ZERO, lowest, summed, times
 from everysource.ratios import falling_poly, lowest_ratio, poly_product, ratio_sum, worth
@@ -21,13 +21,21 @@ def rows_needed(wish):
     wish = as_tuples(wish)
     if wish == ():
         return None
-    degree = wish_degree(wish)
+    many = 1
+    while sums_over_lots(wish, many) == ():
+        many += 1
+    return many
+
+
+def sums_over_lots(wish, many):
+    """Pairs (lots, FRACTION) of the wish brought to one number of factors, with at most so many lots."""
+    degree, moments = wish_degree(wish), wish_moments(wish)
+    idle = (0,) * len(moments[0]) if moments else ()
     pairs = []
     for factors, x in wish:
-        idle = tuple([0] * len(wish_moments(wish)[0])) if degree > 0 else ()
-        full = factors + (idle,) * (degree - len(factors))
-        pairs.extend([(lots, times(x, (count, 1))) for lots, count in lots_of(full).items()])
-    return max(1, min([len(lots) for lots, _ in summed(pairs)]))
+        lots_and_counts = few_lots_of(factors + (idle,) * (degree - len(factors)), many)
+        pairs.extend([(lots, times(x, (count, 1))) for lots, count in lots_and_counts.items()])
+    return summed(pairs)
 
 
 def showing_source(wish, c):
@@ -75,7 +83,7 @@ def is_poly(thing):
 
 
 def is_there(writing, n):
-    return all(worth(bottom, n) != 0 for _, _, (_, bottom) in as_tuples(writing))
+    return all(worth(triple[2][1], n) != 0 for triple in as_tuples(writing))
 
 
 def check_there(writing, n):

@@ -395,6 +395,15 @@ class PaperTest(unittest.TestCase):
                 for keeper in (made_keeper(total, c), straight_keeper(total, c)):
                     self.assertEqual(told(keeper, rows), slow.pair(slow_at(total, rows)))
 
+    def test_papers_of_many_rows(self):
+        # The tenth power of the count of rows is told apart by eleven counts of rows only.
+        count = ((((0, 0),) * 10, HALF),)
+        heads, ends = straight_paper(count, 2)
+        self.assertEqual((straight_kept(count), len(heads), len(ends)), (11, 11, 11))
+        self.assertEqual(len({len(rows) for rows in heads}), 11)
+        self.assertIs(is_straight_paper(count, (heads, ends), 2), True)
+        self.assertIs(is_slope_paper(count, slope_paper(count, 2), 2), True)
+
     def test_wrong_slope_papers(self):
         good = (((0,), (1,), (2,)), ((), (((1, 2),),), ((UNIT,), ((2, 1),))))
         self.assertIs(is_slope_paper(SPREAD, good, 1), determinant(self.slope_table(SPREAD, good)) != 0)
