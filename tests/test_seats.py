@@ -129,6 +129,12 @@ class SeatingTest(unittest.TestCase):
         self.assertEqual(lacking_lot(wide, (Y,) * 5), (0, 1, 2, 3))
         self.assertIs(is_seating(wide, factors, (42, 41, 40, 39, 0, 1, 2, 3)), True)
         self.assertEqual(showing((((0,), 2), ((1, 2), 1)), (0, HUGE, HUGE)), (2,))
+        crowd, lot = ((0, HUGE),) * 90, tuple(range(1, 90, 2))
+        self.assertIs(is_lacking_lot(wide, crowd, lot), True)
+        self.assertIs(is_lacking_lot(wide, crowd, lot + (90,)), False)
+        self.assertIs(is_lacking_lot((((0, 1), 45),), crowd, lot), False)
+        self.assertIs(is_seating((((0, 1), 90),), crowd, tuple(range(89, -1, -1))), True)
+        self.assertIs(is_seating((((0, 1), 90),), crowd, tuple(range(89)) + (5,)), False)
 
 
 class TellTest(unittest.TestCase):
