@@ -18,7 +18,25 @@ def spread_wish(form):
 
 
 def joint_wish(form, other):
-    return wish_of(product_of(as_tuples(form), as_tuples(other)))
+    return wish_of(joint_form(as_tuples(form), as_tuples(other)))
+
+
+def joint_form(form, other):
+    """A FORM with the mean of the product of both.
+
+    If one of them is even, it makes no difference which names the powers in the other one have: so equal
+    names are added up first, and what has very many names is multiplied by few.
+    """
+    if is_even(other):
+        return product_of(least_names(form), other)
+    if is_even(form):
+        return product_of(least_names(other), form)
+    return product_of(form, other)
+
+
+def least_names(form):
+    """The FORM with the least of their names for all powers."""
+    return summed([(tuple(sorted(powers)), x) for powers, x in form])
 
 
 def excess(form):
@@ -28,7 +46,7 @@ def excess(form):
 
 def even_square(form):
     """The WISH of the mean of the square of evened(form), which may have too many pairs to be multiplied out."""
-    alike = summed([(tuple(sorted(powers)), x) for powers, x in form])
+    alike = least_names(form)
     pairs = []
     for place, (powers, x) in enumerate(alike):
         for far, (other, y) in enumerate(alike[:place + 1]):
@@ -64,7 +82,7 @@ def beats(form, other, source):
 
 
 def mean_square(form, source):
-    return mean_of(product_of(form, form), source)
+    return mean_of(joint_form(form, form), source)
 
 
 def worse_source(form):
@@ -98,7 +116,7 @@ def best_mix(form, other, source):
     if bottom == ZERO:
         return ZERO
     # The step has the mean 0, so that products alone tell what goes together.
-    return times((-1, 1), over(mean_of(product_of(form, step), source), bottom))
+    return times((-1, 1), over(mean_of(joint_form(form, step), source), bottom))
 
 
 def check_one_tell(teller):

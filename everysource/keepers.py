@@ -2,7 +2,7 @@
 
 from everysource.errors import Unfit
 from everysource.freerows import free_rows
-from everysource.lines import are_free, first_place, rank, reduced, with_line
+from everysource.lines import are_free, basis_of, line_of, rank, with_line
 from everysource.polys import monomial, plus_powers, scaled
 from everysource.quotients import ONE, ZERO, less, plus, summed, times
 from everysource.sums import plus_totals, times_totals, total_at
@@ -131,38 +131,33 @@ def letters_of(total):
     return tuple(sorted({powers for factors, _ in total for powers in factors}))
 
 
-def factors_in(totals):
-    """The list of all factors in the TOTALS, ascending."""
-    return sorted({factors for total in totals for factors, _ in total})
-
-
-def table_of(totals):
-    """A line of FRACTIONS for each TOTAL, one for each factors in some of them."""
-    columns = factors_in(totals)
-    out = []
-    for total in totals:
-        own = {factors: x for factors, x in total}
-        out.append([own.get(factors, ZERO) for factors in columns])
-    return out
-
-
 def slopes_of(total):
     """The list of the slopes by all POWERS in the TOTAL, ascending."""
     return [slope(total, powers) for powers in letters_of(total)]
 
 
+def total_line(total):
+    """The line of the FRACTIONS of a TOTAL by their factors."""
+    return {factors: x for factors, x in total}
+
+
+def line_total(line):
+    return tuple([(factors, line[factors]) for factors in sorted(line)])
+
+
 def fewest_kept(total):
-    return rank(table_of(slopes_of(as_tuples(total))))
+    return rank([total_line(own) for own in slopes_of(as_tuples(total))])
 
 
 def straight_basis(total):
-    """Of the TOTAL, its slopes, their slopes and so on the first ones of which none comes of those ahead."""
-    basis, waiting = [], [total]
+    """A basis of the lines of the TOTAL, its slopes, their slopes and so on."""
+    basis, waiting = {}, [total]
     while waiting:
         later = []
         for own in waiting:
-            if are_free(table_of(basis + [own])):
-                basis.append(own)
+            wider = with_line(basis, total_line(own))
+            if len(wider) > len(basis):
+                basis = wider
                 later.extend(slopes_of(own))
         waiting = later
     return basis
@@ -172,31 +167,34 @@ def straight_kept(total):
     return len(straight_basis(as_tuples(total)))
 
 
-def kept_lines(total):
-    """The reduced basis of the lines of what stands at each factors in the slopes."""
-    table = table_of(slopes_of(total))
-    return reduced([list(line) for line in zip(*table)])
+def kept_basis(total):
+    """The reduced basis of the lines of what stands at each factors in the slopes, by the POWERS of these."""
+    lines = {}
+    for powers in letters_of(total):
+        for factors, x in slope(total, powers):
+            if factors not in lines:
+                lines[factors] = {}
+            lines[factors][powers] = x
+    return basis_of([lines[factors] for factors in sorted(lines)])
 
 
 def kept_forms(total):
-    total = as_tuples(total)
-    letters = letters_of(total)
-    return tuple([line_total(line, [(powers,) for powers in letters]) for line in kept_lines(total)])
+    basis = kept_basis(as_tuples(total))
+    return tuple([sum_total(basis[first]) for first in sorted(basis)])
 
 
-def line_total(line, columns):
-    """The TOTAL with these FRACTIONS for the factors in columns, ascending."""
-    return tuple([(factors, x) for factors, x in zip(columns, line) if x != ZERO])
+def sum_total(line):
+    """The TOTAL that is the sum of the FRACTIONS of the line times the sums by their POWERS."""
+    return tuple([((powers,), line[powers]) for powers in sorted(line)])
 
 
 def made_keeper(total, c):
     total = as_tuples(total)
-    letters, lines = letters_of(total), kept_lines(total)
-    k = len(lines)
-    firsts = [letters[first_place(line)] for line in lines]
+    basis = kept_basis(total)
+    k, firsts = len(basis), sorted(basis)
     deeds = []
-    for place, line in enumerate(lines):
-        rows = [((0,) * k + powers, x) for powers, x in zip(letters, line)]
+    for place, first in enumerate(firsts):
+        rows = [((0,) * k + powers, x) for powers, x in basis[first].items()]
         deeds.append(summed(rows + [(unit(place, k) + (0,) * c, ONE)]))
     # The total hangs on what is kept alone, so sums that are first in no line may be taken as 0.
     tell = []
@@ -210,25 +208,21 @@ def straight_keeper(total, c):
     """What is kept are the values of a basis; a further row makes them values of what the basis spans, too."""
     total = as_tuples(total)
     basis = straight_basis(total)
-    columns = factors_in(basis)
-    lines = reduced(table_of(basis))
-    firsts = [columns[first_place(line)] for line in lines]
-    k = len(lines)
+    k, firsts = len(basis), sorted(basis)
     deeds = []
-    for line in lines:
+    for first in firsts:
         pairs = []
-        for powers, later in further(line_total(line, columns), c):
-            pairs.extend([(unit(place, k) + powers, x) for place, x in enumerate(coordinates(later, firsts))])
+        for powers, later in further(line_total(basis[first]), c):
+            pairs.extend([(own + powers, x) for own, x in coordinates(later, firsts)])
         deeds.append(summed(pairs))
-    start = [coordinates(line_total(line, columns), [()])[0] for line in lines]
-    tell = [(unit(place, k), x) for place, x in enumerate(coordinates(total, firsts))]
-    return (tuple(start), tuple(deeds), summed(tell))
+    start = [basis[first].get((), ZERO) for first in firsts]
+    return (tuple(start), tuple(deeds), summed(coordinates(total, firsts)))
 
 
 def coordinates(total, firsts):
-    """The FRACTIONS of the TOTAL at the first factors of the lines of a reduced basis."""
-    own = {factors: x for factors, x in total}
-    return [own.get(factors, ZERO) for factors in firsts]
+    """Pairs (powers of the kept numbers, FRACTION) by which the TOTAL comes of a basis with these first factors."""
+    line = total_line(total)
+    return [(unit(place, len(firsts)), line.get(first, ZERO)) for place, first in enumerate(firsts)]
 
 
 def further(total, c):
@@ -251,26 +245,28 @@ def parted(factors, c):
 
 def slope_paper(total, c):
     total = as_tuples(total)
-    letters, slopes = (), []
+    letters, slopes, basis = (), [], {}
     for powers in letters_of(total):
         own = slope(total, powers)
-        if are_free(table_of(slopes + [own])):
-            letters, slopes = letters + (powers,), slopes + [own]
+        wider = with_line(basis, total_line(own))
+        if len(wider) > len(basis):
+            letters, slopes, basis = letters + (powers,), slopes + [own], wider
     return (letters, free_ends(slopes, c))
 
 
 def straight_paper(total, c):
+    basis = straight_basis(as_tuples(total))
     # What heads and ends do together is the same for both, so what parts the one parts the other.
-    ends = free_ends(straight_basis(as_tuples(total)), c)
+    ends = free_ends([line_total(basis[first]) for first in sorted(basis)], c)
     return (ends, ends)
 
 
 def free_ends(totals, c):
     """As many ends as TOTALS, which are independent, at which their values are independent lines."""
-    ends, basis, k = (), [], 0
+    ends, basis, k = (), {}, 0
     while len(ends) < len(totals):
         for end in ends_to_try(k, c):
-            wider = with_line(basis, [total_at(own, end) for own in totals])
+            wider = with_line(basis, line_of([total_at(own, end) for own in totals]))
             if len(wider) > len(basis):
                 ends, basis = ends + (end,), wider
         k += 1
@@ -308,7 +304,7 @@ def is_slope_paper(total, thing, c):
     if len(letters) != len(ends) or not all(are_powers(powers, c) for powers in letters):
         return False
     slopes = [slope(total, powers) for powers in letters]
-    return are_free([[total_at(own, end) for own in slopes] for end in ends])
+    return are_free([line_of([total_at(own, end) for own in slopes]) for end in ends])
 
 
 def is_straight_paper(total, thing, c):
@@ -317,4 +313,4 @@ def is_straight_paper(total, thing, c):
     heads, ends = thing
     if len(heads) != len(ends):
         return False
-    return are_free([[total_at(total, head + end) for end in ends] for head in heads])
+    return are_free([line_of([total_at(total, head + end) for end in ends]) for head in heads])

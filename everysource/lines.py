@@ -1,58 +1,57 @@
-"""Tables of FRACTIONS line by line: which lines are independent."""
+"""Lines of FRACTIONS, and which of them are independent.
+
+A line is a dict of FRACTIONS other than 0 by their keys, 0 at all others. A basis is a dict of lines by
+their first keys: the first FRACTION of each line is 1 and alone at its key.
+"""
 
 from everysource.quotients import ZERO, less, over, times
 
 
-def reduced(lines):
-    """The list of the lines of the reduced basis of these lines, all of one length.
+def line_of(xs):
+    """The line of a list of FRACTIONS by their places."""
+    return {place: x for place, x in enumerate(xs) if x != ZERO}
 
-    The first FRACTION other than 0 of each line is 1, stands further behind than in the one ahead, and
-    alone in its place.
-    """
-    basis = []
+
+def basis_of(lines):
+    basis = {}
     for line in lines:
         basis = with_line(basis, line)
-    return sorted(basis, key=first_place)
+    return basis
 
 
 def with_line(basis, line):
-    """The reduced basis, in any order, of such a basis and a further line; the basis itself if the line comes of it."""
-    line = rest_by(basis, line)
-    place = first_place(line)
-    if place is None:
+    """The basis of what comes of a basis and a further line; the basis itself if the line comes of it."""
+    for key, own in basis.items():
+        line = taken_off(line, own, key)
+    if not line:
         return basis
-    line = [over(x, line[place]) for x in line]
-    return [taken_off(own, line, place) for own in basis] + [line]
+    first = min(line)
+    line = {key: over(x, line[first]) for key, x in line.items()}
+    out = {key: taken_off(own, line, first) for key, own in basis.items()}
+    out[first] = line
+    return out
 
 
-def rest_by(basis, line):
-    """What is left of the line if as much of the basis is taken off as stands in its first places."""
-    for own in basis:
-        line = taken_off(line, own, first_place(own))
-    return line
-
-
-def taken_off(line, own, place):
-    """The line less that multiple of own that leaves 0 at place, where own has 1."""
-    share = line[place]
-    if share == ZERO:
+def taken_off(line, own, key):
+    """The line less that multiple of own that leaves 0 at the key, where own has 1."""
+    if key not in line:
         return line
-    return [less(x, times(share, y)) for x, y in zip(line, own)]
-
-
-def first_place(line):
-    """The first place with a FRACTION other than 0, None if there is none."""
-    for place, x in enumerate(line):
-        if x != ZERO:
-            return place
-    return None
+    share = line[key]
+    out = {place: x for place, x in line.items()}
+    for place, x in own.items():
+        left = less(out.get(place, ZERO), times(share, x))
+        if left == ZERO:
+            out.pop(place)
+        else:
+            out[place] = left
+    return out
 
 
 def rank(lines):
     """How many of the lines are independent."""
-    return len(reduced(lines))
+    return len(basis_of(lines))
 
 
 def are_free(lines):
-    """Whether all the lines are independent; a table of as many lines as places has a determinant other than 0 then."""
+    """Whether all the lines are independent: a table of as many places has a determinant other than 0 then."""
     return rank(lines) == len(lines)

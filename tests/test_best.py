@@ -1,3 +1,4 @@
+import itertools
 import unittest
 from fractions import Fraction
 
@@ -45,6 +46,23 @@ class SpreadTest(unittest.TestCase):
             check_call(self, excess, form)
             check_call(self, joint_wish, form, other)
             self.assertEqual(joint_wish(form, other), joint_wish(other, form))
+
+    def test_even_forms(self):
+        drawn = slow.Drawn(9)
+        for _ in range(40):
+            n, c = drawn.number(1, 3), drawn.number(1, 2)
+            form, even, source = drawn.form(n, c, 4), slow.evened(drawn.form(n, c), n), drawn.source(c, 3, 2)
+            right = slow.wish_of(slow.times(form, even))
+            self.assertEqual((joint_wish(form, even), joint_wish(even, form)), (right, right))
+            self.assertEqual(slow.wish_value(spread_wish(even), source), slow.spread(alone(even), source, n))
+        # Of 2520 names each, which nobody multiplies out.
+        wide = best_program(((((1,), (2,), (3,), (4,), (5,)), UNIT),), 7, 1)
+        square, source = spread_wish(wide), (((ZERO,), HALF), ((UNIT,), HALF))
+        once = Fraction(sum(Fraction(1, 2 ** len(set(range(5)) | set(way)))
+                            for way in itertools.permutations(range(7), 5)), 2520)
+        self.assertEqual(slow.wish_value(square, source), once - Fraction(1, 2 ** 10))
+        self.assertEqual(excess(wide), ())
+        self.assertIs(beats(wide, wide[:1], source), False)
 
     def test_edges_of_spreads(self):
         number = ((((0,), (0,)), (HUGE, 7)),)
