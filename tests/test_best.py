@@ -150,11 +150,12 @@ class BestTest(unittest.TestCase):
             self.assertEqual(outcome(worse_source, (form,), {}), ("error", CanNot, {}))
 
     def test_worse_source_where_small_rows_are_alike(self):
-        # 2 x y y - 3 x x y + .. comes to the same at many pairs of small numbers.
+        # y (y - low) (y - high) comes to 0 at both of the small numbers.
         off = ((((0,), (1,)), (-6, 1)), (((1,), (0,)), (6, 1)))
         for low, high in ((2, 3), (1, 2), (3, 5)):
             form = ((((0,), (1,)), (low * high, 1)), (((0,), (2,)), (-low - high, 1)), (((0,), (3,)), UNIT))
             source = worse_source(form)
+            self.assertEqual(len(source), 2)
             self.assertGreater(
                 slow.spread(alone(form), source, 2), slow.spread(alone(slow.evened(form, 2)), source, 2))
         self.assertEqual(len(worse_source(off)), 2)
