@@ -91,6 +91,17 @@ def placed(form, ahead, behind, c):
     return tuple([(front + powers + back, x) for powers, x in form])
 
 
+def with_idle(form, place, c):
+    """The FORM with a further sample, of no use, at this place; those from there on come one place later."""
+    idle = ((0,) * c,)
+    return tuple([(powers[:place] + idle + powers[place:], x) for powers, x in form])
+
+
+def without_sample(form, place):
+    """The FORM without the sample at this place, on which it does not hang."""
+    return tuple([(powers[:place] + powers[place + 1:], x) for powers, x in form])
+
+
 def widened(form, n, c):
     """The FORM for n samples, further ones behind."""
     if not form:

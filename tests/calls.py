@@ -36,7 +36,7 @@ def check_call(test, function, *args):
 # Those of which the document says that they return a list, or several results without naming a tuple.
 LISTS = (
     "drawings", "all_orders", "alike_samples", "apart_lots", "seatings", "least_kinds", "moves", "nought_basis",
-    "layers_at", "layer_shares")
+    "layers_at", "layer_shares", "root_parts", "error_parts", "ways", "verdicts", "desk")
 
 
 def check_result(test, function, args, first):

@@ -353,3 +353,61 @@ def null_line(table):
 
 def wish_degree(wish):
     return max((len(factors) for factors, _ in wish), default=0)
+
+
+def solution(table, right):
+    """FRACTIONS as Fractions that times the places of each line come to right, None if there are none."""
+    lines = [[Fraction(x) for x in line] + [Fraction(y)] for line, y in zip(table, right)]
+    many, places = len(table[0]) if table else 0, []
+    for column in range(many):
+        first = next((k for k in range(len(places), len(lines)) if lines[k][column] != 0), None)
+        if first is None:
+            continue
+        done = len(places)
+        lines[done], lines[first] = lines[first], lines[done]
+        lines[done] = [x / lines[done][column] for x in lines[done]]
+        for k in range(len(lines)):
+            if k != done:
+                lines[k] = [x - lines[k][column] * y for x, y in zip(lines[k], lines[done])]
+        places.append(column)
+    if any(line[-1] != 0 for line in lines[len(places):]):
+        return None
+    out = [Fraction(0)] * many
+    for k, column in enumerate(places):
+        out[column] = lines[k][-1]
+    return out
+
+
+def falling(n, many):
+    out = 1
+    for k in range(many):
+        out *= n - k
+    return out
+
+
+def plain_mean(wish, n):
+    """The WISH of the mean of the plain program of n samples, parting by parting."""
+    pairs = []
+    for factors, x in wish:
+        for lots in partings(len(factors)):
+            moments = [tuple(sum(k) for k in zip(*[factors[place] for place in lot])) for lot in lots]
+            share = Fraction(falling(n, len(lots)), n ** len(factors))
+            pairs.append((tuple(sorted(moments)), exact(x) * share))
+    return from_sums(added(pairs))
+
+
+def even_rows(rows):
+    """The SOURCE in which each of the rows is drawn alike."""
+    return ranked(added([(row, Fraction(1, len(rows))) for row in rows]))
+
+
+def scaled(pairs, x):
+    return from_sums({key: exact(y) * x for key, y in pairs if x != 0})
+
+
+def wish_table(wishes, wish):
+    """The lines of an equation for each factors: what stands in the wishes, and in the one they are to come to."""
+    keys = sorted({factors for own in list(wishes) + [wish] for factors, _ in own})
+    own = [dict(part) for part in wishes]
+    return ([[exact(part.get(key, (0, 1))) for part in own] for key in keys],
+            [exact(dict(wish).get(key, (0, 1))) for key in keys])

@@ -239,11 +239,53 @@ EXAMPLES = r"""
     (True, False, (1, 1))
     >>> merged(swap, ((0, 1), (1, 1)), ((0, 1), (1, 1)))
     raises Unfit()
+    # again
+    >>> square, spread = ((((1,), (1,)), (1, 1)),), ((((1,), (1,)), (-1, 1)), (((2,),), (1, 1)))
+    >>> root_of(3, 3), drawn(square, 2, 1), drawn(spread, 3, 1)
+    ((2, 9), ((((1,), (1,)), (1, 2)), (((2,),), (1, 2))), ((((1,), (1,)), (-2, 3)), (((2,),), (2, 3))))
+    >>> plain_form(square, 2, 1)
+    ((((0,), (2,)), (1, 4)), (((1,), (1,)), (1, 2)), (((2,), (0,)), (1, 4)))
+    >>> root_parts(square, 2)
+    [((1, 2), ((((1,), (1,)), (1, 1)), (((2,),), (-1, 1)))), ((1, 1), ((((2,),), (1, 1)),))]
+    >>> runs = right_runs(square, 2, (0, 1))
+    >>> runs, runs_form(square, 2, 1, runs), right_runs(spread, 2, (0,))
+    (((0, (3, 1)), (1, (-2, 1))), ((((1,), (1,)), (1, 1)),), ((0, (2, 1)),))
+    >>> fewest_runs(spread, 3), fewest_runs(square, 2), fewest_runs(square, 1), wrong_root(square, 2, ((0, (1, 1)),))
+    (1, 2, None, (1, 2))
+    >>> right_runs(square, 2, (1,))
+    raises CanNot()
+    # leftout
+    >>> mean, square, spread = ((((1,),), (1, 1)),), ((((1,), (1,)), (1, 1)),), ((((1,), (1,)), (-1, 1)), (((2,),), (1, 1)))
+    >>> error_parts(square) == [spread], error_parts(spread), error_parts(mean)
+    (True, [((((1,), (1,)), (1, 1)), (((2,),), (-1, 1)))], [])
+    >>> left_form(square, 2, 1), left_error(square, 3), left_error(mean, 2)
+    (((((1,), (1,)), (1, 1)),), (), ())
+    >>> left_form(square, 1, 1)
+    raises Unfit()
+    >>> blend_mean(spread, ((2, (1, 1)),)), right_blend(spread, (2,)), right_blend(square, (1, 2))
+    (((((1,), (1,)), (-1, 2)), (((2,),), (1, 2))), ((2, (2, 1)),), ((1, (-1, 1)), (2, (2, 1))))
+    >>> fewest_sizes(square, (1, 2, 3)), fewest_sizes(spread, (1, 3, 4)), fewest_sizes(spread, (1,)), is_right_blend(square, ((2, (2, 1)),))
+    ((1, 2), (3,), None, False)
+    >>> off_form(mean, 2, 1), off_mean(mean, 3)
+    (((((0,), (2,)), (1, 2)), (((1,), (1,)), (-1, 1)), (((2,), (0,)), (1, 2))), ((((1,), (1,)), (-1, 2)), (((2,),), (1, 2))))
+    >>> right_blend(square, (3,))
+    raises CanNot()
+    # steady
+    >>> half, rise, turn = (1, 2), (2, 2, (((0, 1), (1, 1)),)), (2, 2, (((0, 1), (1, 1)), ((1, 0), (-1, 1))))
+    >>> ring_gain(rise, (0, 1, 1)), store(turn), gaining_ring(turn), is_store(rise, ())
+    ((1, 1), (((1,), (1, 1)),), None, False)
+    >>> most_step(rise), is_most_store(rise, half, (((1,), half),)), step_gain(rise, (2, 1, (((0,), half), ((1,), half))))
+    ((1, 2), True, (1, 4))
+    >>> away = ((((1,), (1,)), (1, 1)), (((2,), (0,)), (-1, 1)))
+    >>> form_store(((((0,), (1,)), (1, 1)), (((1,), (0,)), (-1, 1))), 2, 1), ring_sum(away, 2, (((1, 1),), ((2, 1),)))
+    (((((1,),), (1, 1)),), (-1, 1))
+    >>> store(rise)
+    raises CanNot()
 """
 
 
 def examples():
-    """The list of triples (row, what it shows or None, the file in whose section it stands)."""
+    """The list of triples (row, what it shows or None, the files in whose section it stands)."""
     out, file = [], None
     for row in EXAMPLES.strip().split("\n"):
         row = row.strip()
@@ -272,8 +314,9 @@ class ExampleTest(unittest.TestCase):
         for row, result, file in examples():
             if file != last:
                 # A section's own functions are meant where an example ahead gave their names to something else.
-                module = importlib.import_module("everysource." + file)
-                names.update({name: getattr(module, name) for name, _ in entries(INTERFACE[file])})
+                for own in file.split():
+                    module = importlib.import_module("everysource." + own)
+                    names.update({name: getattr(module, name) for name, _ in entries(INTERFACE[own])})
                 last = file
             if result is None:
                 exec(row, names)
@@ -281,7 +324,7 @@ class ExampleTest(unittest.TestCase):
             with self.subTest(row=row):
                 self.assertEqual(shown(row, names), result)
                 tried += 1
-        self.assertEqual(tried, 84)
+        self.assertEqual(tried, 101)
 
 
 if __name__ == "__main__":

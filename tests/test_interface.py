@@ -66,6 +66,19 @@ INTERFACE = {
                "added_total(keeper), slope(total, powers), fewest_kept(total), straight_kept(total), "
                "kept_forms(total), made_keeper(total, c), straight_keeper(total, c), slope_paper(total, c), "
                "straight_paper(total, c), is_slope_paper(total, thing, c), is_straight_paper(total, thing, c)",
+    "again": "root_of(n, k), drawn(wish, n, many), plain_form(wish, n, c), run_form(wish, n, c, t), root_parts(wish, "
+             "n), fewest_runs(wish, n), is_runs(thing), runs_mean(wish, n, runs), runs_form(wish, n, c, runs), "
+             "are_right_runs(wish, n, runs), right_runs(wish, n, numbers), wrong_root(wish, n, runs)",
+    "leftout": "error_parts(wish), left_form(wish, n, c), left_error(wish, n), is_blend(thing), blend_mean(wish, "
+               "blend), is_right_blend(wish, blend), right_blend(wish, sizes), fewest_sizes(wish, sizes), "
+               "off_form(wish, n, c), off_mean(wish, n)",
+    "steady": "is_gain(thing), is_stream(thing), ring_gain(gain, ring), step_gain(gain, stream), store(gain), "
+              "is_store(gain, thing), gaining_ring(gain), most_ring(gain), most_step(gain), most_store(gain, bound), "
+              "is_most_store(gain, bound, thing), form_store(form, n, c), ring_sum(form, n, rows), form_ring(form, n, "
+              "c)",
+    "programs": "is_program(thing), samples_in(program), ways(program), way_weight(program, way), way_tells(program, "
+                "way), law_of(program), program_of(teller, samples, columns), joined(one, other, samples, further, "
+                "count)",
 }
 
 
