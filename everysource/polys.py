@@ -93,6 +93,8 @@ def placed(form, ahead, behind, c):
 
 def with_idle(form, place, c):
     """The FORM with a further sample, of no use, at this place; those from there on come one place later."""
+    if not form:
+        return form
     idle = ((0,) * c,)
     return tuple([(powers[:place] + idle + powers[place:], x) for powers, x in form])
 

@@ -157,7 +157,8 @@ class Run:
     """A run of a PROGRAM in which the dice fall in this WAY."""
 
     def __init__(self, program, way):
-        self.columns, self.routines = program
+        self.columns = program[0]
+        self.routines = program[1]
         self.n = samples_in(program)
         self.way = way
         self.thrown = 0

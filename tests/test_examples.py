@@ -53,6 +53,16 @@ EXAMPLES = r"""
     ((0, 1), False, True)
     >>> are_apart_at(lone, coin, 2, (0,), (1,))
     raises NoPlace(place=1)
+    # programs proglines
+    >>> near_x, far_x = ((((1,), (0,)), (1, 1)),), ((((0,), (1,)), (1, 1)),)
+    >>> tosser = program_by('columns x\nmain draws 2\n  throw c: 1/2: x.0 | 1/2: x.1\n  tell c')
+    >>> law_of(tosser) == (((far_x,), (1, 2)), ((near_x,), (1, 2))), ways(tosser)
+    (True, [(0,), (1,)])
+    >>> drawer = program_by('columns x\npair draws 2\n  tell x.0 - x.1\nm draws 1\n  a from pair\n  tell a*x.0 + (2/4)')
+    >>> law_of(drawer)[0][0][0], program_text(drawer)[-16:]
+    (((((0,), (0,), (0,)), (1, 2)), (((1,), (0,), (1,)), (-1, 1)), (((1,), (1,), (0,)), (1, 1))), 'tell a*x.0 + 1/2')
+    >>> program_by('columns x\nmain draws 1\n  tell x.1')
+    raises BadLine(line=3)
     # orbits
     >>> orbit((a,)) == ((b,), (a,)), least_name((a,)) == (b,), len(orbit((apart,))), least_name((apart,)) == (apart,)
     (True, True, 2, True)
@@ -281,6 +291,42 @@ EXAMPLES = r"""
     (((((1,),), (1, 1)),), (-1, 1))
     >>> store(rise)
     raises CanNot()
+    # papers
+    >>> x, y, one, half = ((((1,), (0,)), (1, 1)),), ((((0,), (1,)), (1, 1)),), (1, 1), (1, 2)
+    >>> solo, coin, two = (((x,), one),), (((y,), half), ((x,), half)), (((x, y), one),)
+    >>> plan, lone = ((0, 0, (1, 0), half), (0, 1, (0, 1), half)), (((((((1,),), one),),), one),)
+    >>> is_paper_for(("same", solo, coin), plan), is_so(("needs", solo, 2)), is_paper_against(("needs", solo, 2), (lone, ((0, 0, (0, 1), one),)))
+    (True, False, True)
+    >>> rise = (2, 2, (((0, 1), one),))
+    >>> verdicts((("steady", rise), ("most", rise, half), ("most", rise, (1, 3))), ((0, 1), (((1,), half),), (0, 1)))
+    ['against', 'for', 'against']
+    >>> comes_of(("same", coin, coin), (("same", solo, coin),)), first_false((("most", rise, one), ("steady", rise))), is_so(("apart", two, (0,), (1,)))
+    (True, 1, True)
+    >>> is_so(("apart", two, (0,), (0,)))
+    raises Unfit()
+    # board
+    >>> b = Board(2, (((0,), 1), ((0, 1), 1)))
+    >>> b.want(((0, 1), (1, 0)), (1, 1)), b.can_tell(), b.take(((((1, 0), (0, 1)), (1, 1)),)), b.take(((((0, 0), (1, 1)), (1, 1)),))
+    (None, True, 0, 1)
+    >>> b.right_tickets(), b.error(1), b.same(0, 1), b.apart(0, 1)
+    ((0,), ((((0, 1), (1, 0)), (-1, 1)), (((1, 1),), (1, 1))), False, False)
+    >>> b.mark(), b.want(((0, 1), (0, 1)), (1, 1)), b.can_tell(), b.changed(0), b.more(1), b.can_tell(), b.changed(0)
+    (0, None, False, ('right', 'seats'), 2, True, ('right',))
+    >>> b.form(0), b.rename(1, (0, 2, 1)), b.apart(0, 1)
+    (((((1, 0), (0, 1), (0, 0)), (1, 1)),), None, True)
+    >>> b.undo(), b.undo(), b.undo(), b.join(1, 0, (-1, 1)), b.wish() == ((((0, 1), (1, 0)), (1, 1)),), len(b.form(1)), b.kinds()
+    (None, None, None, None, True, 2, (((0,), 1), ((0, 1), 1)))
+    >>> b.less(0)
+    raises CanNot()
+    >>> b.rename(0, (1, 0))
+    raises Unfit()
+    # desk
+    >>> desk("kinds\nwant 1 2\nwant -1 1, 1\nwish\nseats\nmore 0\nseats\ntake 1/2: 2, 0 | -1: 1, 1 | 1/2: 0, 2\nright\nspread 0 0 | 1")
+    ['1: 0', 'done', 'done', '-1 1, 1 | 1 2', 'no', '1', 'yes', '0', '0', '1/16']
+    >>> desk("board 2 1: 0 | 1: 0 1\ntake 1: 1 0, 0 1\nform 0\nerror 0\ntake 1: 0 1, 0 0\nundo\nundo\nmean 0 0 0 | 1 1")
+    ['done', '0', '1: 1 0, 0 1', '1 0 1, 1 0', 'refused Unfit', 'done', 'refused NothingDone', 'refused NoPlace']
+    >>> desk("program\n columns x\n main draws 1\n   tell x.0\nform 0\nmean 0 1 | 2 | 6\nwant 1/0 1\nlook")
+    raises BadLine(line=8)
 """
 
 
@@ -324,7 +370,7 @@ class ExampleTest(unittest.TestCase):
             with self.subTest(row=row):
                 self.assertEqual(shown(row, names), result)
                 tried += 1
-        self.assertEqual(tried, 101)
+        self.assertEqual(tried, 118)
 
 
 if __name__ == "__main__":

@@ -79,7 +79,18 @@ INTERFACE = {
     "programs": "is_program(thing), samples_in(program), ways(program), way_weight(program, way), way_tells(program, "
                 "way), law_of(program), program_of(teller, samples, columns), joined(one, other, samples, further, "
                 "count)",
+    "proglines": "program_text(program), program_by(text)",
+    "papers": "is_claim(thing), is_so(claim), paper(claim), is_paper_for(claim, thing), is_paper_against(claim, "
+              "thing), is_matching(teller, further, thing), verdicts(claims, things), comes_of(claim, claims), "
+              "first_false(claims)",
+    "board": "Board(c, kinds)",
+    "desk": "desk(text), is_request(thing)",
 }
+
+METHODS = (
+    "kinds(), wish(), form(ticket), tickets(), more(kind), less(kind), want(factors, share), take(form), drop(ticket), "
+    "rename(ticket, order), join(ticket, other, share), mark(), back(mark), undo(), can_tell(), error(ticket), "
+    "right_tickets(), same(ticket, other), apart(ticket, other), changed(mark)")
 
 
 def entries(text):
@@ -112,6 +123,22 @@ class InterfaceTest(unittest.TestCase):
             defined = [row.name for row in tree.body if isinstance(row, (ast.FunctionDef, ast.ClassDef))]
             for name, _ in entries(text):
                 self.assertEqual(defined.count(name), 1, name)
+
+    def test_methods(self):
+        board = importlib.import_module("everysource.board").Board
+        for name, arguments in entries(METHODS):
+            with self.subTest(name=name):
+                parameters = inspect.signature(vars(board)[name]).parameters
+                self.assertEqual(list(parameters)[1:], arguments)
+                for parameter in parameters.values():
+                    self.assertEqual(parameter.kind, parameter.POSITIONAL_OR_KEYWORD)
+                    self.assertIs(parameter.default, parameter.empty)
+
+    def test_errors(self):
+        errors = importlib.import_module("everysource.errors")
+        for name, base in (("NoPlace", LookupError), ("NothingDone", LookupError), ("BadLine", ValueError),
+                           ("CanNot", ValueError), ("TooMuch", ValueError), ("Unfit", ValueError)):
+            self.assertEqual(getattr(errors, name).__bases__, (base,))
 
 
 if __name__ == "__main__":

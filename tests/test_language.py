@@ -186,6 +186,45 @@ class LanguageTest(unittest.TestCase):
                 if isinstance(op, (ast.Is, ast.IsNot)):
                     self.assertIn(getattr(right, "value", 0), (None, True, False), (name, node.lineno))
 
+    def test_classes(self):
+        methods, stored, read = set(), set(), {}
+        for name, node in nodes(ast.ClassDef):
+            self.assertFalse(node.decorator_list or node.keywords, (name, node.name))
+            own = [row.name for row in node.body if isinstance(row, ast.FunctionDef)]
+            self.assertEqual(len(own), len(set(own)), (name, node.name))
+            self.assertEqual([row for row in node.body[1:] if not isinstance(row, ast.FunctionDef)], [], (name, node.name))
+            self.assertIsNotNone(ast.get_docstring(node), (name, node.name))
+            methods.update(own)
+            for row in node.body[1:]:
+                self.assertEqual(row.args.args[0].arg, "self")
+        for name, node in nodes(ast.Attribute):
+            self.assertIsInstance(node.value, (ast.Name, ast.Attribute, ast.Call, ast.Subscript, ast.Constant), (name, node.lineno))
+            if isinstance(node.ctx, ast.Store):
+                self.assertIsInstance(node.value, ast.Name, (name, node.lineno))
+                stored.add(node.attr)
+            else:
+                read[node.attr] = (name, node.lineno)
+        self.assertEqual(methods & stored, set())
+        for own in read:
+            self.assertTrue(own in methods or own in stored or own in METHODS, (own, read[own]))
+        self.assertEqual(stored & METHODS - {"count", "index", "title", "find", "get", "join", "split", "strip", "copy"}, set())
+        self.assertEqual(stored & {"format", "args", "encode", "decode", "hex", "sort", "mro"}, set())
+
+    def test_products(self):
+        for name, node in nodes(ast.Call):
+            if isinstance(node.func, ast.Name) and node.func.id in LIBRARY["itertools"]:
+                self.assertEqual(node.keywords, [], (name, node.lineno))
+                self.assertFalse(any(isinstance(own, ast.Starred) for own in node.args), (name, node.lineno))
+
+    def test_handlers(self):
+        for name, node in nodes(ast.ExceptHandler):
+            self.assertIsInstance(node.type, ast.Name, (name, node.lineno))
+            self.assertIn(node.type.id, ("BadLine", "NoPlace", "NothingDone", "CanNot", "TooMuch", "Unfit", "KeyError"), name)
+            self.assertIsNone(node.name)
+        for name, node in nodes(ast.Raise):
+            self.assertIsInstance(node.exc, ast.Call, (name, node.lineno))
+            self.assertIsNone(node.cause)
+
     def test_strings(self):
         for name, node in nodes(ast.Constant):
             if isinstance(node.value, str):

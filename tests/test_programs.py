@@ -138,6 +138,8 @@ class LinesTest(unittest.TestCase):
                 ((("x",), (("m", 0, (("tell", ONE),)), ("n", 0, (("call", ("a",), "m", None), ("tell", a))))), True),
                 ((("x",), (("m", 0, (("tell", ONE),)), ("n", 0, (("tell", a), ("call", ("a",), "m", None))))), False),
                 (lines(("let", "a", ONE), ("tell", ("sum", ("i",), a))), True),
+                (lines(("tell", ONE), ("tell", ("name", "number"))), False),
+                (lines(("let", "a", ONE), ("tell", a), ("tell", ("name", "name"))), False),
                 (telling(("sum", ("i",), ("name", "i"))), False), (telling(("name", "x")), False)):
             self.assertIs(is_program(program), right, program)
         # A name holds what it was given last; a throw reads what was held ahead of it.
